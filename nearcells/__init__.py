@@ -1,0 +1,1 @@
+"""Nearcells: the cells of nearest sites, exactly."""

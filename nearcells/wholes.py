@@ -1,0 +1,21 @@
+"""Whole numbers, and fractions of them."""
+
+from math import gcd
+
+
+def is_integer(value):
+    """Whether a value is an integer; True and False are none."""
+    return isinstance(value, int) and not isinstance(value, bool)
+
+
+def sign(number):
+    """1, 0 or -1 for a number above 0, for 0, and for one below 0."""
+    if number == 0:
+        return 0
+    return 1 if number > 0 else -1
+
+
+def fraction(top, bottom):
+    """The fraction top / bottom in lowest terms, for a bottom of at least 1."""
+    common = gcd(top, bottom)
+    return (top // common, bottom // common)

@@ -1,0 +1,64 @@
+"""The interface: its names, the files that define them, and their arguments."""
+
+import ast
+import importlib
+import inspect
+import pathlib
+import unittest
+
+PACKAGE = pathlib.Path(__file__).resolve().parent.parent / "nearcells"
+FUNCTIONS = {
+    "wholes": {"is_integer": "value"},
+    "signs": {
+        "side": "a b c",
+        "is_between": "a b c",
+        "circle": "a b c",
+        "in_circle": "a b c d",
+        "lift_side": "a b c d",
+        "square": "place site",
+        "nearer": "place a b",
+    },
+}
+CLASSES = {
+    "errors": {
+        "CellError": None,
+        "InvalidSites": "at",
+        "InvalidTriangles": "at",
+        "InvalidBound": "argument",
+        "InvalidCall": "call",
+        "NoCircle": "",
+        "LimitExceeded": "limit",
+    },
+}
+
+
+def defined(module, kind):
+    """The names that a file defines itself, in its outermost rows."""
+    tree = ast.parse((PACKAGE / f"{module}.py").read_text())
+    return [row.name for row in tree.body if isinstance(row, kind)]
+
+
+class Interface(unittest.TestCase):
+    def assert_arguments(self, made, names):
+        parameters = inspect.signature(made).parameters.values()
+        self.assertEqual([one.name for one in parameters], names.split())
+        for one in parameters:
+            self.assertIs(one.kind, one.POSITIONAL_OR_KEYWORD)
+            self.assertIs(one.default, one.empty)
+
+    def test_functions(self):
+        for module, functions in FUNCTIONS.items():
+            for name, arguments in functions.items():
+                with self.subTest(module, name=name):
+                    self.assertIn(name, defined(module, ast.FunctionDef))
+                    found = getattr(importlib.import_module(f"nearcells.{module}"), name)
+                    self.assert_arguments(found, arguments)
+
+    def test_classes(self):
+        for module, classes in CLASSES.items():
+            for name, arguments in classes.items():
+                with self.subTest(module, name=name):
+                    self.assertIn(name, defined(module, ast.ClassDef))
+                    found = getattr(importlib.import_module(f"nearcells.{module}"), name)
+                    if arguments is not None:
+                        self.assert_arguments(found, arguments)

@@ -1,0 +1,90 @@
+"""Values that are no sites, no places, or neither, to be passed as arguments."""
+
+from nearcells import errors
+
+DEPTH = 2000
+FAR = 10 ** 6
+LONG = 10 ** 30
+
+
+def nested_list(depth=DEPTH):
+    value = []
+    for _ in range(depth):
+        value = [value]
+    return value
+
+
+def nested_tuple(depth=DEPTH):
+    value = ()
+    for _ in range(depth):
+        value = (value,)
+    return value
+
+
+def nested_pair(depth=DEPTH):
+    value = (0, 0)
+    for _ in range(depth):
+        value = (value, value)
+    return value
+
+
+def nested_dict(depth=DEPTH):
+    value = {}
+    for _ in range(depth):
+        value = {"a": value}
+    return value
+
+
+def own_list():
+    value = []
+    value.append(value)
+    return value
+
+
+def error_objects():
+    return [
+        errors.CellError(),
+        errors.InvalidSites(0),
+        errors.InvalidTriangles(at=-1),
+        errors.InvalidBound("a"),
+        errors.InvalidCall(call=("put", (0, 0))),
+        errors.NoCircle(),
+        errors.LimitExceeded(200),
+        ValueError("a"),
+    ]
+
+
+def neither():
+    """Objects of many built-in types, none of them a site or a place."""
+    return error_objects() + [
+        None, True, False, 0, 1, -5, 10 ** 40, 2j, "", "ab", "abc", "00", b"", b"ab", b"abc",
+        [], [0, 0], [0, 0, 1], [(0, 0)], {}, {0: 0, 1: 0}, {"a": []}, set(), {0, 1}, {0, 1, 2},
+        frozenset((0, 1)), bytearray(b"ab"), memoryview(b"abc"), range(2), range(3), slice(0, 1),
+        object(), Ellipsis, NotImplemented, int, tuple, len, neither, iter([0, 0]),
+        (number for number in (0, 0)), zip([0], [0]), {}.keys(), "ab".join,
+        (), (0,), (0, 0, 0, 1), (None, None), (None, 0, 1), ("0", "0"), ("0", "0", "1"),
+        ([], []), ({}, 0, 1), (set(), 0), ((0, 0), (0, 0)), ((0, 0), (0, 0), 1),
+        nested_list(), nested_tuple(), nested_pair(), nested_dict(), own_list(),
+        (nested_list(), 0), (0, nested_tuple()), (nested_dict(), nested_list()),
+        (nested_pair(), nested_pair(), 1), (0, 0, nested_tuple()),
+    ]
+
+
+def no_sites():
+    """Values that are no sites, those near to a site among them."""
+    return neither() + [
+        (0, 0, 1), (True, 0), (0, False), (True, True), (None, 0), (0, "0"), (0, b"0"), (0, [0]),
+        (FAR + 1, 0), (0, FAR + 1), (-FAR - 1, 0), (0, -FAR - 1), (10 ** 40, 0), (0, -10 ** 900),
+        (0, 1j), [FAR, FAR],
+    ]
+
+
+def no_places():
+    """Values that are no places, those near to a place among them."""
+    return neither() + [
+        (0, 0), (0, 0, 0), (1, 1, 0), (1, 0, 0), (0, 0, -1), (1, 1, -1), (-1, -1, -2), (3, 4, -5),
+        (2, 2, 2), (0, 0, 2), (4, 6, 2), (-3, 6, 9), (0, 10 ** 20, 10 ** 20),
+        (True, 0, 1), (0, False, 1), (0, 0, True), (None, 0, 1), (0, "0", 1), (0, 0, "1"),
+        (LONG, 1, 1), (1, LONG, 1), (1, 1, LONG), (-LONG, 1, 1), (1, -LONG, 1), (1, 1, -LONG),
+        (LONG, 1, 0), (10 ** 900, 0, 1), (0, 0, [1]), (0, 0, 1j),
+    ]
