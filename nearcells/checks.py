@@ -1,27 +1,31 @@
 """What is asked of the arguments that a caller passes.
 
-Only the outermost tuple is looked at, and nothing is compared or hashed
-before it is known to be an integer: so arguments may be nested deep.
+Only the outermost tuples are looked at, and nothing is compared or hashed
+before it is known to be a site: so arguments may be nested deep.
 """
 
 from math import gcd
 
-from nearcells.errors import InvalidBound
+from nearcells.errors import InvalidBound, InvalidSites
 from nearcells.wholes import is_integer
 
-FARTHEST_NUMBER = 1000000
+MOST_SITES = 200
 
 
+# Most calls begin with this look at their sites. So no other function is called
+# here for one number, and the bounds are written out instead of named.
 def is_site(value):
     """Whether a value is a tuple (x, y) of two integers within the bounds."""
     if not isinstance(value, tuple) or len(value) != 2:
         return False
-    return is_coordinate(value[0]) and is_coordinate(value[1])
-
-
-def is_coordinate(value):
-    """Whether a value may be one of the two numbers of a site."""
-    return is_integer(value) and abs(value) <= FARTHEST_NUMBER
+    x, y = value
+    if not isinstance(x, int) or not isinstance(y, int):
+        return False
+    if x is True or x is False or y is True or y is False:
+        return False
+    if x > 1000000 or x < -1000000 or y > 1000000 or y < -1000000:
+        return False
+    return True
 
 
 def is_place(value):
@@ -49,3 +53,44 @@ def check_place(value, name):
     """Raise InvalidBound with the name of the argument for what is no place."""
     if not is_place(value):
         raise InvalidBound(name)
+
+
+def check_direction(value, name):
+    """Raise InvalidBound for what is no tuple of two short integers, not both 0."""
+    if not isinstance(value, tuple) or len(value) != 2:
+        raise InvalidBound(name)
+    if not is_short(value[0]) or not is_short(value[1]) or value == (0, 0):
+        raise InvalidBound(name)
+
+
+def check_sites(value):
+    """Raise InvalidSites for what is no list of 1 to 200 sites, no two alike."""
+    if not isinstance(value, list):
+        raise InvalidSites(-1)
+    if len(value) == 0:
+        raise InvalidSites(0)
+    seen = set()
+    for at, item in enumerate(value):
+        if at == MOST_SITES or not is_site(item) or item in seen:
+            raise InvalidSites(at)
+        seen.add(item)
+
+
+def ascending(sites):
+    """A new list of sites in ascending order, once they are known to be sites."""
+    check_sites(sites)
+    return sorted(sites)
+
+
+def check_member(value, sites, name):
+    """Raise InvalidBound with the name of the argument for what is none of the sites."""
+    if not is_site(value) or value not in sites:
+        raise InvalidBound(name)
+
+
+def check_two(a, b, sites):
+    """Raise InvalidBound unless a and b are two unlike ones of the sites."""
+    check_member(a, sites, "a")
+    check_member(b, sites, "b")
+    if a == b:
+        raise InvalidBound("b")

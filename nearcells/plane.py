@@ -10,10 +10,16 @@ def turn(a, b, c):
     return (b[0] - a[0]) * (c[1] - a[1]) - (b[1] - a[1]) * (c[0] - a[0])
 
 
+def turn_to_place(a, b, place):
+    """The double area of two sites and a place (x, y, d), times d."""
+    x, y, d = place
+    return (b[0] - a[0]) * (y - d * a[1]) - (b[1] - a[1]) * (x - d * a[0])
+
+
 def on_stretch(a, b, c):
     """Whether c is a point of the stretch from a to b."""
     # The points of one line stand along it in the order of tuples.
-    return turn(a, b, c) == 0 and min(a, b) <= c <= max(a, b)
+    return turn(a, b, c) == 0 and (a <= c <= b or b <= c <= a)
 
 
 def lifted_from(a, b):
@@ -42,18 +48,27 @@ def circle_through(a, b, c):
     return (centre, fraction(x * x + y * y, double * double))
 
 
+def height_over(a, b, c, d):
+    """How far the lift of d is above the plane through those of a triangle that turns left.
+
+    The height is told times the double area: above 0 outside of the circle
+    through a, b and c, 0 on it, below 0 inside.
+    """
+    # Lifts from d instead of (0, 0) change all heights by the same plane.
+    dx, dy = d
+    ax, ay = a[0] - dx, a[1] - dy
+    bx, by = b[0] - dx, b[1] - dy
+    cx, cy = c[0] - dx, c[1] - dy
+    return ((ax * ax + ay * ay) * (by * cx - bx * cy) + (bx * bx + by * by) * (ax * cy - ay * cx)
+            + (cx * cx + cy * cy) * (ay * bx - ax * by))
+
+
 def lift_sign(a, b, c, d):
     """Where the lift of d is: above (1), in (0) or below (-1) the plane.
 
     The plane is the one through the lifts of the triangle a, b, c.
     """
-    # Lifts from a instead of (0, 0) change all heights by the same plane.
-    bx, by, bz = lifted_from(a, b)
-    cx, cy, cz = lifted_from(a, c)
-    dx, dy, dz = lifted_from(a, d)
-    base = bx * cy - by * cx
-    volume = dx * (by * cz - bz * cy) + dy * (bz * cx - bx * cz) + dz * base
-    return sign(volume) * sign(base)
+    return sign(height_over(a, b, c, d)) * sign(turn(a, b, c))
 
 
 def spread_square(place, site):

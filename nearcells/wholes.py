@@ -19,3 +19,8 @@ def fraction(top, bottom):
     """The fraction top / bottom in lowest terms, for a bottom of at least 1."""
     common = gcd(top, bottom)
     return (top // common, bottom // common)
+
+
+def is_less(one, other):
+    """Whether a fraction is less than another one."""
+    return one[0] * other[1] < other[0] * one[1]

@@ -1,101 +1,184 @@
-"""Points 2 and 4: which arguments are valid, and which wrong one is told."""
+"""Points 2 and 4: which arguments are valid, which wrong one is told, and what calls leave alone."""
 
+import copy
+import importlib
 import unittest
 from itertools import product
 
 from nearcells import signs
-from nearcells.errors import CellError, InvalidBound, NoCircle
-from tests.wrong_values import DEPTH, FAR, LONG, no_places, no_sites
+from nearcells.errors import (CellError, InvalidBound, InvalidSites, InvalidTriangles, LimitExceeded,
+                              NoCircle)
+from tests import samples
+from tests.table import CUT, SITES, TAKES
+from tests.wrong_values import (DEPTH, FAR, LONG, no_directions, no_edges, no_members,
+                                no_places, no_sites, wrong_sites, wrong_triangles)
 
-# For each function its arguments in order, with valid values.
-VALID = {
-    "side": [("a", (0, 0)), ("b", (4, 0)), ("c", (1, 3))],
-    "is_between": [("a", (0, 0)), ("b", (4, 0)), ("c", (1, 3))],
-    "circle": [("a", (0, 0)), ("b", (4, 0)), ("c", (1, 3))],
-    "in_circle": [("a", (0, 0)), ("b", (4, 0)), ("c", (1, 3)), ("d", (1, 1))],
-    "lift_side": [("a", (0, 0)), ("b", (4, 0)), ("c", (1, 3)), ("d", (1, 1))],
-    "square": [("place", (1, 1, 2)), ("site", (4, 0))],
-    "nearer": [("place", (1, 1, 2)), ("a", (0, 0)), ("b", (4, 0))],
-}
+BOUNDS = {"site": no_sites, "member": lambda: no_members(SITES), "place": no_places,
+          "other": lambda: no_members(SITES) + [(0, 0)], "direction": no_directions,
+          "edge": lambda: no_edges(SITES)}
 
 
-def wrong_values(name):
-    return no_places() if name == "place" else no_sites()
+def wrong_values(argument, kind):
+    """The values that are wrong for an argument, each with the error that it raises."""
+    if kind == "sites":
+        return [(value, (InvalidSites, at)) for value, at in wrong_sites()]
+    if kind == "triangles":
+        return [(value, (InvalidTriangles, at)) for value, at in wrong_triangles(SITES, CUT)]
+    if kind == "free":
+        return []
+    return [(value, (InvalidBound, argument)) for value in BOUNDS[kind]()]
+
+
+def function_of(name):
+    module, _, word = name.partition(".")
+    return getattr(importlib.import_module(f"nearcells.{module}"), word)
+
+
+def valid(name):
+    return [copy.deepcopy(value) for _, value, _ in TAKES[name]]
 
 
 def raised(name, values):
     """The error that a call raises, by position and by name alike, or None."""
-    function = getattr(signs, name)
-    names = [argument for argument, _ in VALID[name]]
+    function = function_of(name)
+    names = [argument for argument, _, _ in TAKES[name]]
     one = error_of(lambda: function(*values))
     other = error_of(lambda: function(**dict(zip(names, values))))
-    assert type(one) is type(other)
-    assert getattr(one, "argument", None) == getattr(other, "argument", None)
+    assert one == other
     return one
 
 
 def error_of(call):
+    """The class of the error and its field, or None."""
     try:
         call()
     except CellError as error:
-        return error
+        return (type(error), *vars(error).values())
     return None
 
 
 class Wrong(unittest.TestCase):
-    def assert_bound(self, error, argument):
-        self.assertIs(type(error), InvalidBound)
-        self.assertEqual(error.argument, argument)
-
     def test_each_argument_alone(self):
-        for name, arguments in VALID.items():
-            for at, (argument, _) in enumerate(arguments):
-                values = [value for _, value in arguments]
-                for number, wrong in enumerate(wrong_values(argument)):
+        for name, takes in TAKES.items():
+            for at, (argument, _, kind) in enumerate(takes):
+                values = valid(name)
+                for number, (wrong, right) in enumerate(wrong_values(argument, kind)):
                     with self.subTest(name, argument=argument, number=number):
                         values[at] = wrong
-                        self.assert_bound(raised(name, values), argument)
+                        self.assertEqual(raised(name, values), right)
 
     def test_the_first_of_several_is_told(self):
-        for name, arguments in VALID.items():
-            for choice in product((False, True), repeat=len(arguments)):
-                values = [None if wrong else value for wrong, (_, value) in zip(choice, arguments)]
+        raises = {"sites": (InvalidSites, -1), "triangles": (InvalidTriangles, -1)}
+        for name, takes in TAKES.items():
+            for choice in product((False, True), repeat=len(takes)):
+                values = [None if wrong else value for wrong, value in zip(choice, valid(name))]
+                right = [raises.get(kind, (InvalidBound, argument))
+                         for wrong, (argument, _, kind) in zip(choice, takes) if wrong and kind != "free"]
                 with self.subTest(name, choice=choice):
-                    if any(choice):
-                        self.assert_bound(raised(name, values), arguments[choice.index(True)][0])
-                    else:
-                        self.assertIsNone(raised(name, values))
+                    self.assertEqual(raised(name, values), right[0] if right else None)
+
+    def test_triangles_of_other_sites(self):
+        # What is wrong with the sites comes ahead, whatever the triangles are.
+        for name, takes in TAKES.items():
+            if [kind for _, _, kind in takes][:2] == ["sites", "triangles"]:
+                values = valid(name)
+                values[0] = [(0, 0), (9, 9), (0, 0)]
+                self.assertEqual(raised(name, values), (InvalidSites, 2))
+                values[0] = [(0, 0), (9, 9), (9, 0)]
+                self.assertEqual(raised(name, values), (InvalidTriangles, 0))
 
     def test_alike_ends_of_side(self):
-        self.assert_bound(raised("side", [(1, 2), (1, 2), (3, 4)]), "b")
-        self.assert_bound(raised("side", [(1, 2), (1, 2), (1, 2)]), "b")
+        self.assertEqual(raised("signs.side", [(1, 2), (1, 2), (3, 4)]), (InvalidBound, "b"))
+        self.assertEqual(raised("signs.side", [(1, 2), (1, 2), (1, 2)]), (InvalidBound, "b"))
 
     def test_alike_ends_of_side_come_ahead_of_c(self):
         for wrong in no_sites():
-            self.assert_bound(raised("side", [(1, 2), (1, 2), wrong]), "b")
+            self.assertEqual(raised("signs.side", [(1, 2), (1, 2), wrong]), (InvalidBound, "b"))
 
     def test_what_is_wrong_in_a_comes_ahead_of_alike_ends(self):
         for wrong in no_sites():
-            self.assert_bound(raised("side", [wrong, wrong, (3, 4)]), "a")
+            self.assertEqual(raised("signs.side", [wrong, wrong, (3, 4)]), (InvalidBound, "a"))
 
     def test_no_circle_comes_behind_all_arguments(self):
         row = [(0, 0), (1, 1), (5, 5)]
         alike = [(2, 2), (2, 2), (7, 1)]
         for three in (row, alike):
-            for name in ("in_circle", "lift_side"):
-                self.assertIs(type(raised(name, [*three, (0, 9)])), NoCircle)
+            for name in ("signs.in_circle", "signs.lift_side"):
+                self.assertEqual(raised(name, [*three, (0, 9)]), (NoCircle,))
                 for wrong in no_sites():
-                    self.assert_bound(raised(name, [*three, wrong]), "d")
+                    self.assertEqual(raised(name, [*three, wrong]), (InvalidBound, "d"))
         for wrong in no_sites():
-            self.assert_bound(raised("circle", [(2, 2), (2, 2), wrong]), "c")
-            self.assert_bound(raised("in_circle", [(2, 2), (2, 2), wrong, (0, 9)]), "c")
+            self.assertEqual(raised("signs.circle", [(2, 2), (2, 2), wrong]), (InvalidBound, "c"))
+            self.assertEqual(raised("signs.in_circle", [(2, 2), (2, 2), wrong, (0, 9)]), (InvalidBound, "c"))
 
     def test_wrong_arguments_stay_as_they_were(self):
-        for wrong in ([0, 0], {0: 0}, {1, 2}, [[(0, 0)], 3]):
+        for wrong in ([0, 0], {0: 0}, {1, 2}, [[(0, 0)], 3], [(0, 0), [1, 1]], [(0, 0), (0, 0)]):
             before = str(wrong)
-            for name, arguments in VALID.items():
-                raised(name, [wrong for _ in arguments])
+            for name, takes in TAKES.items():
+                raised(name, [wrong for _ in takes])
+                for at in range(len(takes)):
+                    values = valid(name)
+                    values[at] = wrong
+                    raised(name, values)
             self.assertEqual(str(wrong), before)
+
+
+class Told(unittest.TestCase):
+    """What holds for the results of all functions."""
+
+    def test_arguments_stay_and_results_are_equal(self):
+        for name in TAKES:
+            values, names = valid(name), [argument for argument, _, _ in TAKES[name]]
+            one = function_of(name)(*values)
+            self.assertEqual(values, valid(name), name)
+            self.assertTrue(function_of(name)(*values) == one, name)
+            other = function_of(name)(**dict(reversed(list(zip(names, values)))))
+            self.assertTrue(one == other and type(one) is type(other), name)
+
+    def test_the_order_of_sites_and_triangles_does_not_matter(self):
+        for name in TAKES:
+            if name != "building.steps":
+                values = valid(name)
+                right = function_of(name)(*values)
+                for turns in range(1, 6):
+                    mixed = [mix(value, turns) for value in values]
+                    self.assertTrue(function_of(name)(*mixed) == right, name)
+
+    def test_results_belong_to_the_caller(self):
+        for name in TAKES:
+            values = valid(name)
+            right = copy.deepcopy(function_of(name)(*values))
+            spoil(function_of(name)(*values))
+            self.assertEqual(values, valid(name), name)
+            self.assertTrue(function_of(name)(*values) == right, name)
+
+    def test_integers_are_told_as_integers(self):
+        for name in TAKES:
+            for number in atoms(function_of(name)(*valid(name))):
+                self.assertIn(type(number), (int, bool, str, type(None)), name)
+
+
+def mix(value, turns):
+    """A list of sites or triangles in another order; other values as they are."""
+    if isinstance(value, list):
+        return value[turns:] + value[:turns] if turns % 2 else value[turns::-1] + value[:turns:-1]
+    return value
+
+
+def spoil(value):
+    """Change all lists in a result."""
+    if isinstance(value, (list, tuple)):
+        for item in value:
+            spoil(item)
+    if isinstance(value, list):
+        value.append("spoilt")
+        value.reverse()
+
+
+def atoms(value):
+    if isinstance(value, (list, tuple)):
+        return [one for item in value for one in atoms(item)]
+    return [value] if not hasattr(value, "edges") else atoms(value.edges() + value.faces() + value.triangles())
 
 
 class Edges(unittest.TestCase):
@@ -105,20 +188,32 @@ class Edges(unittest.TestCase):
 
     def test_sites_one_beyond(self):
         for site in ((FAR + 1, 0), (0, FAR + 1), (-FAR - 1, 0), (0, -FAR - 1)):
-            self.assertIs(type(raised("square", [(0, 0, 1), site])), InvalidBound)
+            self.assertEqual(raised("signs.square", [(0, 0, 1), site]), (InvalidBound, "site"))
+            self.assertEqual(raised("hulls.hull", [[(0, 0), site]]), (InvalidSites, 1))
 
     def test_places_of_thirty_digits(self):
         for place in ((LONG - 1, 0, 1), (0, LONG - 1, 1), (0, 1, LONG - 1), (1 - LONG, 1, 1)):
-            self.assertIsNone(raised("square", [place, (0, 0)]))
+            self.assertIsNone(raised("signs.square", [place, (0, 0)]))
 
     def test_places_of_thirty_one_digits(self):
         for place in ((LONG, 0, 1), (0, LONG, 1), (0, 1, LONG), (-LONG, 1, 1)):
-            self.assertIs(type(raised("square", [place, (0, 0)])), InvalidBound)
+            self.assertEqual(raised("signs.square", [place, (0, 0)]), (InvalidBound, "place"))
 
     def test_places_have_no_other_bounds(self):
         # A place may be far beyond all sites, and have a divisor with one of its numbers.
         for place in ((0, 0, 1), (FAR * 9, -FAR * 9, 1), (2, 4, 3), (2, 3, 4), (0, 3, 4), (6, 10, 15)):
-            self.assertIsNone(raised("nearer", [place, (0, 0), (1, 1)]))
+            self.assertIsNone(raised("signs.nearer", [place, (0, 0), (1, 1)]))
+
+    def test_directions_need_not_be_in_lowest_terms(self):
+        for direction in ((2, 4), (0, -7), (LONG - 1, 0), (LONG - 1, 1 - LONG), (-1, 0)):
+            self.assertIsNone(raised("hulls.extreme", [[(0, 0)], direction]))
+
+    def test_200_sites(self):
+        for sites in (samples.grid(20, 10), samples.large()[0]):
+            for name, takes in TAKES.items():
+                if [kind for _, _, kind in takes] == ["sites"]:
+                    self.assertIn(raised(name, [list(sites)]), (None, (LimitExceeded, 40), (LimitExceeded, 9)))
+                    self.assertEqual(raised(name, [sites + [(50, 50)]]), (InvalidSites, 200))
 
 
 class Deep(unittest.TestCase):

@@ -18,6 +18,37 @@ FUNCTIONS = {
         "square": "place site",
         "nearer": "place a b",
     },
+    "hulls": {
+        "hull": "sites",
+        "border": "sites",
+        "double_hull": "sites",
+        "layers": "sites",
+        "layer_of": "sites site",
+        "where": "sites place",
+        "seen_sides": "sites site",
+        "extreme": "sites direction",
+    },
+    "subdivision": {
+        "centres": "sites a b",
+        "avoided": "sites a b",
+        "is_triangulation": "sites triangles",
+        "first_wrong": "sites triangles",
+    },
+    "building": {
+        "wrong_edges": "sites triangles",
+        "flipped": "sites triangles edge",
+        "straightened": "sites triangles",
+        "placed": "sites",
+        "volume": "sites triangles",
+        "steps": "order",
+    },
+}
+# The methods that the interface lists, besides their own object.
+METHODS = {
+    "Subdivision": {
+        "sites": "", "edges": "", "triangles": "", "faces": "", "neighbours": "site",
+        "face_circle": "face", "__eq__": "other",
+    },
 }
 CLASSES = {
     "errors": {
@@ -29,6 +60,7 @@ CLASSES = {
         "NoCircle": "",
         "LimitExceeded": "limit",
     },
+    "subdivision": {"Subdivision": "sites"},
 }
 
 
@@ -62,3 +94,11 @@ class Interface(unittest.TestCase):
                     found = getattr(importlib.import_module(f"nearcells.{module}"), name)
                     if arguments is not None:
                         self.assert_arguments(found, arguments)
+
+    def test_methods_stand_in_the_class_itself(self):
+        for module, classes in CLASSES.items():
+            for name in classes:
+                for method, arguments in METHODS.get(name, {}).items():
+                    with self.subTest(name, method=method):
+                        found = vars(getattr(importlib.import_module(f"nearcells.{module}"), name))
+                        self.assert_arguments(found[method], f"self {arguments}")

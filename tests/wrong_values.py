@@ -88,3 +88,54 @@ def no_places():
         (LONG, 1, 1), (1, LONG, 1), (1, 1, LONG), (-LONG, 1, 1), (1, -LONG, 1), (1, 1, -LONG),
         (LONG, 1, 0), (10 ** 900, 0, 1), (0, 0, [1]), (0, 0, 1j),
     ]
+
+
+def no_members(sites):
+    """Values that are none of the sites."""
+    return no_sites() + [(x + 1, y) for x, y in sites if (x + 1, y) not in sites] + [(FAR, FAR)]
+
+
+def no_directions():
+    """Values that are no directions."""
+    return neither() + [
+        (0, 0), (0, 0, 1), (1, 2, 3), [1, 2], (1,), (True, 0), (0, True), (False, 1), (False, False),
+        (LONG, 1), (1, LONG), (-LONG, 1), (1, -LONG), (None, 1), (1, "1"), (1, [1]), (1, 1j),
+        (nested_list(), 1), (1, nested_tuple()),
+    ]
+
+
+def wrong_sites():
+    """Values that are no lists of sites, each with the at that is told."""
+    told = [(value, -1) for value in no_sites() + no_places() if not isinstance(value, list)]
+    told += [(((0, 0), (1, 1)), -1), ({(0, 0): True}, -1), ({(0, 0)}, -1), ([], 0)]
+    for wrong in no_sites():
+        told += [([wrong], 0), ([(0, 0), (4, 0), wrong], 2), ([(0, 0), wrong, (4, 0), wrong, (0, 0)], 1)]
+    told += [([(0, 0), (0, 0)], 1), ([(0, 0), (1, 0), (0, 1), (1, 0), (0, 0)], 3), ([(0, 0), (0, 0), None], 1)]
+    many = [(x, y) for x in range(20) for y in range(15)]
+    told += [(many[:201], 200), (many, 200), (many[:200] + [None], 200), (many[:200] + [many[0]], 200)]
+    told += [(many[:5] + [(0, 3)] + many[5:], 5), (many[:199] + [[]] + many[199:], 199)]
+    told += [(many[:200] + many[:3], 200), ([own_list(), own_list()], 0), ([many], 0)]
+    return told
+
+
+def wrong_triangles(sites, triangles):
+    """Values that are no triangulation of sites, each with the at that is told.
+
+    The sites are in general not in a row, and the triangles are a triangulation.
+    """
+    told = [(value, -1) for value in no_sites() if not isinstance(value, list)]
+    told += [(tuple(triangles), -1), ({triangles[0]: True}, -1), ([], 0), (triangles[:1] * 2, 2)]
+    a, b, c = triangles[0]
+    for wrong in neither() + [(a, b), (a, b, c, a), (a, b, b), (a, a, a), (a, b, (9, 9)), [a, b, c]]:
+        told += [([wrong], 0), (triangles[:1] + [wrong, None], 1), (triangles + [wrong], len(triangles))]
+    for wrong in no_sites():
+        told += [([(a, b, wrong)], 0), (triangles + [(wrong, b, c)], len(triangles))]
+    told += [(triangles[1:], len(triangles) - 1), (triangles + [(c, b, a)], len(triangles) + 1)]
+    return told
+
+
+def no_edges(sites):
+    """Values that are no tuples of two sites, the lesser one first."""
+    a, b = sorted(sites)[:2]
+    told = neither() + [(b, a), (a, a), (a,), (a, b, b), [a, b], (a, (FAR, FAR))]
+    return told + [(a, wrong) for wrong in no_sites()] + [(wrong, b) for wrong in no_sites()]

@@ -1,0 +1,89 @@
+"""Hulls of sites, the layers below them, and what is seen from where."""
+
+from nearcells.checks import ascending, check_direction, check_member, check_place, check_site
+from nearcells.outline import border_of, corners_of, double_area_of, is_row, sides_of
+from nearcells.plane import turn, turn_to_place
+
+
+def hull(sites):
+    """The corners of the hull, turning left from the least one; the ends of a row."""
+    return corners_of(ascending(sites))
+
+
+def border(sites):
+    """All sites on the border of the hull, turning left from the least one."""
+    return border_of(ascending(sites))
+
+
+def double_hull(sites):
+    """Two times the area of the hull."""
+    return double_area_of(corners_of(ascending(sites)))
+
+
+def layers(sites):
+    """The borders that come one below the other if each one is taken away."""
+    rows = ascending(sites)
+    told = []
+    while len(rows) > 0:
+        layer = border_of(rows)
+        gone = {site: True for site in layer}
+        rows = [site for site in rows if site not in gone]
+        told.append(layer)
+    return told
+
+
+def layer_of(sites, site):
+    """The number of the layer of a site, from 0."""
+    told = layers(sites)
+    check_member(site, sites, "site")
+    return [site in layer for layer in told].index(True)
+
+
+def where(sites, place):
+    """1, 0 or -1 for a place inside of, on the border of, or outside of the hull."""
+    rows = ascending(sites)
+    check_place(place, "place")
+    return side_of_hull(rows, place)
+
+
+def side_of_hull(rows, place):
+    """What where tells, for ascending sites."""
+    if is_row(rows):
+        return 0 if is_on_way(rows[0], rows[-1], place) else -1
+    corners = corners_of(rows)
+    turns = [turn_to_place(a, b, place) for a, b in zip(corners, corners[1:] + corners[:1])]
+    least = min(turns)
+    if least == 0:
+        return 0
+    return 1 if least > 0 else -1
+
+
+def is_on_way(a, b, place):
+    """Whether a place is on the stretch from a to b, a not above b."""
+    x, y, d = place
+    if turn_to_place(a, b, place) != 0:
+        return False
+    return (a[0] * d, a[1] * d) <= (x, y) <= (b[0] * d, b[1] * d)
+
+
+def seen_sides(sites, site):
+    """The sides of the border that a site sees from outside, in their order."""
+    rows = ascending(sites)
+    check_site(site, "site")
+    sides = sides_of(rows)
+    seen = [turn(a, b, site) < 0 for a, b in sides]
+    starts = [at for at in range(len(sides)) if seen[at] and not seen[at - 1]]
+    if len(starts) == 0:
+        return []
+    # What is seen stands together, perhaps beyond the end of the list.
+    around = list(range(starts[0], len(sides))) + list(range(starts[0]))
+    return [sides[at] for at in around if seen[at]]
+
+
+def extreme(sites, direction):
+    """The sites that are farthest in a direction, ascending."""
+    rows = ascending(sites)
+    check_direction(direction, "direction")
+    u, v = direction
+    far = max([u * x + v * y for x, y in rows])
+    return [(x, y) for x, y in rows if u * x + v * y == far]

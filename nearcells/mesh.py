@@ -1,0 +1,144 @@
+"""Triangulations of sites that are known to be valid, and how they are changed.
+
+A mesh is a dict: for each triangle a, b, c that turns left it has the keys
+(a, b), (b, c) and (c, a), each with the third corner. So a side of the border
+has a key in one direction only, and sites in a row have an empty mesh.
+"""
+
+from nearcells.plane import height_over, turn
+
+
+def mesh_of(triangles):
+    """The mesh of triangles that turn left."""
+    mesh = {}
+    for a, b, c in triangles:
+        mesh[(a, b)] = c
+        mesh[(b, c)] = a
+        mesh[(c, a)] = b
+    return mesh
+
+
+def told_triangles(mesh):
+    """The triangles, each one from its least corner on, ascending."""
+    return sorted([(a, b, c) for (a, b), c in mesh.items() if a < b and a < c])
+
+
+def inner_edges(mesh):
+    """The edges (a, b), a less than b, between two triangles."""
+    return [(a, b) for a, b in mesh if a < b and (b, a) in mesh]
+
+
+def swept(rows):
+    """The triangles that ascending sites make, each with the sides that it sees."""
+    triangles = []
+    low, high = [rows[0]], [rows[0]]
+    for site in rows[1:]:
+        # What a site sees of the border before it lies about the last site.
+        while len(low) > 1 and turn(low[-2], low[-1], site) < 0:
+            triangles.append((low[-2], site, low[-1]))
+            low.pop()
+        while len(high) > 1 and turn(high[-1], high[-2], site) < 0:
+            triangles.append((high[-1], site, high[-2]))
+            high.pop()
+        low.append(site)
+        high.append(site)
+    return triangles
+
+
+def is_wrong(mesh, a, b):
+    """Whether the circle of a triangle beside an inner edge has the other third corner inside."""
+    return height_over(a, b, mesh[(a, b)], mesh[(b, a)]) < 0
+
+
+def can_flip(mesh, a, b):
+    """Whether the two triangles beside an inner edge make a convex polygon of four corners."""
+    c, d = mesh[(a, b)], mesh[(b, a)]
+    return turn(d, c, a) > 0 and turn(d, c, b) < 0
+
+
+def flip(mesh, a, b):
+    """Exchange the two triangles beside an edge; returns the third corners, left one first."""
+    c, d = mesh[(a, b)], mesh[(b, a)]
+    del mesh[(a, b)], mesh[(b, a)]
+    mesh[(d, b)] = c
+    mesh[(b, c)] = d
+    mesh[(c, d)] = b
+    mesh[(c, a)] = d
+    mesh[(a, d)] = c
+    mesh[(d, c)] = a
+    return (c, d)
+
+
+def straighten(mesh):
+    """Flip wrong edges until there is none."""
+    ahead = inner_edges(mesh)
+    while len(ahead) > 0:
+        a, b = ahead.pop()
+        if (a, b) in mesh and (b, a) in mesh and is_wrong(mesh, a, b):
+            c, d = flip(mesh, a, b)
+            ahead.extend([(a, d), (d, b), (b, c), (c, a)])
+
+
+def empty_mesh(rows):
+    """A triangulation of ascending sites whose circles are empty."""
+    mesh = mesh_of(swept(rows))
+    straighten(mesh)
+    return mesh
+
+
+def is_joined(mesh, a, b):
+    """Whether a side of some triangle is an edge of the subdivision, for empty circles."""
+    c, d = mesh.get((a, b)), mesh.get((b, a))
+    if c is None or d is None:
+        return c is not None or d is not None
+    return height_over(a, b, c, d) > 0
+
+
+def joined_edges(mesh, rows):
+    """The ascending list of the edges of the subdivision of ascending sites."""
+    if len(mesh) == 0:
+        return list(zip(rows, rows[1:]))
+    sides = [(a, b) for a, b in mesh if a < b or (b, a) not in mesh]
+    return sorted([told_edge(a, b) for a, b in sides if is_joined(mesh, a, b)])
+
+
+def told_edge(a, b):
+    """The edge between two sites, the lesser one first."""
+    return (a, b) if a < b else (b, a)
+
+
+def put_into(mesh, site):
+    """Put a further site into triangles with empty circles, so that they stay empty.
+
+    Returns the edges, each one once, whose triangles are not the same as before.
+    """
+    gone = gone_sides(mesh, site)
+    touched = {told_edge(a, b): True for a, b in gone}
+    come = []
+    for a, b in gone:
+        if (a, b) in mesh:
+            del mesh[(a, b)]
+        # A side of the border that the site is on is gone without a triangle in its place.
+        if (b, a) not in gone and turn(a, b, site) > 0:
+            come.append((a, b, site))
+    for a, b, c in come:
+        touched[told_edge(a, c)] = True
+        touched[told_edge(b, c)] = True
+    mesh.update(mesh_of(come))
+    return list(touched)
+
+
+def gone_sides(mesh, site):
+    """The sides, turning left, of the triangles in whose circles a further site is.
+
+    With them the sides of the border that it sees, as seen from outside.
+    """
+    gone = {}
+    for (a, b), c in mesh.items():
+        if a < b and a < c and height_over(a, b, c, site) < 0:
+            gone[(a, b)] = True
+            gone[(b, c)] = True
+            gone[(c, a)] = True
+        if (b, a) not in mesh and turn(a, b, site) < 0:
+            gone[(b, a)] = True
+    return gone

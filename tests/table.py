@@ -1,0 +1,45 @@
+"""All functions of the package with valid arguments, and the kind of each argument.
+
+The kinds: sites, site, member (one of the sites), other (an unlike one of them),
+place, direction, triangles, edge (one that can be flipped), and free (any object).
+"""
+
+SITES = [(4, 0), (0, 0), (2, 1), (2, -1), (0, 5), (2, 3)]
+CUT = [((0, 0), (4, 0), (2, 1)), ((0, 0), (2, -1), (4, 0)), ((0, 0), (2, 1), (0, 5)),
+       ((2, 3), (0, 5), (2, 1)), ((4, 0), (2, 3), (2, 1))]
+PLACE = (5, 3, 2)
+SET = ("sites", SITES, "sites")
+WAY = ("triangles", CUT, "triangles")
+THREE = [("a", (0, 0), "site"), ("b", (4, 0), "site"), ("c", (1, 3), "site")]
+TWO = [("a", (0, 0), "member"), ("b", (4, 0), "other")]
+AT = ("place", PLACE, "place")
+MEMBER = ("site", (2, 1), "member")
+
+TAKES = {
+    "signs.side": THREE,
+    "signs.is_between": THREE,
+    "signs.circle": THREE,
+    "signs.in_circle": THREE + [("d", (1, 1), "site")],
+    "signs.lift_side": THREE + [("d", (1, 1), "site")],
+    "signs.square": [AT, ("site", (4, 0), "site")],
+    "signs.nearer": [AT, ("a", (0, 0), "site"), ("b", (4, 0), "site")],
+    "hulls.hull": [SET],
+    "hulls.border": [SET],
+    "hulls.double_hull": [SET],
+    "hulls.layers": [SET],
+    "hulls.layer_of": [SET, MEMBER],
+    "hulls.where": [SET, AT],
+    "hulls.seen_sides": [SET, ("site", (9, 9), "site")],
+    "hulls.extreme": [SET, ("direction", (2, 1), "direction")],
+    "subdivision.Subdivision": [SET],
+    "subdivision.centres": [SET] + TWO,
+    "subdivision.avoided": [SET] + TWO,
+    "subdivision.is_triangulation": [SET, ("triangles", CUT, "free")],
+    "subdivision.first_wrong": [SET, WAY],
+    "building.wrong_edges": [SET, WAY],
+    "building.flipped": [SET, WAY, ("edge", ((0, 0), (4, 0)), "edge")],
+    "building.straightened": [SET, WAY],
+    "building.placed": [SET],
+    "building.volume": [SET, WAY],
+    "building.steps": [("order", SITES, "sites")],
+}
