@@ -7,9 +7,10 @@ before it is known to be a site: so arguments may be nested deep.
 from math import gcd
 
 from nearcells.errors import InvalidBound, InvalidSites
-from nearcells.wholes import is_integer
+from nearcells.wholes import is_fraction, is_integer
 
 MOST_SITES = 200
+FARTHEST_BOX = 10000000
 
 
 # Most calls begin with this look at their sites. So no other function is called
@@ -63,6 +64,30 @@ def check_direction(value, name):
         raise InvalidBound(name)
 
 
+def check_box(value, name):
+    """Raise InvalidBound for what is no box (left, low, right, high) of integers within bounds."""
+    if not isinstance(value, tuple) or len(value) != 4:
+        raise InvalidBound(name)
+    for number in value:
+        if not is_integer(number) or abs(number) > FARTHEST_BOX:
+            raise InvalidBound(name)
+    left, low, right, high = value
+    if left >= right or low >= high:
+        raise InvalidBound(name)
+
+
+def check_many(value, name):
+    """Raise InvalidBound for what is no integer from 1 to the most sites."""
+    if not is_integer(value) or value < 1 or value > MOST_SITES:
+        raise InvalidBound(name)
+
+
+def check_square(value, name):
+    """Raise InvalidBound for what is no fraction from 0 on."""
+    if not is_fraction(value) or value[0] < 0:
+        raise InvalidBound(name)
+
+
 def check_sites(value):
     """Raise InvalidSites for what is no list of 1 to 200 sites, no two alike."""
     if not isinstance(value, list):
@@ -94,3 +119,11 @@ def check_two(a, b, sites):
     check_member(b, sites, "b")
     if a == b:
         raise InvalidBound("b")
+
+
+def is_pair(value, sites):
+    """Whether a value is a tuple (a, b) of two of the sites, a less than b."""
+    if not isinstance(value, tuple) or len(value) != 2:
+        return False
+    a, b = value
+    return is_site(a) and is_site(b) and a < b and a in sites and b in sites

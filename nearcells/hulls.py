@@ -1,8 +1,8 @@
 """Hulls of sites, the layers below them, and what is seen from where."""
 
 from nearcells.checks import ascending, check_direction, check_member, check_place, check_site
-from nearcells.outline import border_of, corners_of, double_area_of, is_row, sides_of
-from nearcells.plane import turn, turn_to_place
+from nearcells.outline import border_of, corners_of, double_area_of, side_of_hull, sides_of
+from nearcells.plane import turn
 
 
 def hull(sites):
@@ -44,26 +44,6 @@ def where(sites, place):
     rows = ascending(sites)
     check_place(place, "place")
     return side_of_hull(rows, place)
-
-
-def side_of_hull(rows, place):
-    """What where tells, for ascending sites."""
-    if is_row(rows):
-        return 0 if is_on_way(rows[0], rows[-1], place) else -1
-    corners = corners_of(rows)
-    turns = [turn_to_place(a, b, place) for a, b in zip(corners, corners[1:] + corners[:1])]
-    least = min(turns)
-    if least == 0:
-        return 0
-    return 1 if least > 0 else -1
-
-
-def is_on_way(a, b, place):
-    """Whether a place is on the stretch from a to b, a not above b."""
-    x, y, d = place
-    if turn_to_place(a, b, place) != 0:
-        return False
-    return (a[0] * d, a[1] * d) <= (x, y) <= (b[0] * d, b[1] * d)
 
 
 def seen_sides(sites, site):

@@ -1,6 +1,6 @@
 """The border of sites that are known to be valid and stand in ascending order."""
 
-from nearcells.plane import turn
+from nearcells.plane import is_on_way, turn, turn_to_place
 
 
 def is_row(rows):
@@ -50,3 +50,15 @@ def double_area_of(corners):
     """The double area of a polygon whose corners are sites, turning left."""
     first = corners[0]
     return sum([turn(first, a, b) for a, b in zip(corners, corners[1:])])
+
+
+def side_of_hull(rows, place):
+    """1, 0 or -1 for a place inside of, on the border of, or outside of the hull."""
+    if is_row(rows):
+        return 0 if is_on_way(rows[0], rows[-1], place) else -1
+    corners = corners_of(rows)
+    turns = [turn_to_place(a, b, place) for a, b in zip(corners, corners[1:] + corners[:1])]
+    least = min(turns)
+    if least == 0:
+        return 0
+    return 1 if least > 0 else -1

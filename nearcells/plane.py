@@ -22,6 +22,14 @@ def on_stretch(a, b, c):
     return turn(a, b, c) == 0 and (a <= c <= b or b <= c <= a)
 
 
+def is_on_way(a, b, place):
+    """Whether a place is on the stretch from a to b, a not above b."""
+    x, y, d = place
+    if turn_to_place(a, b, place) != 0:
+        return False
+    return (a[0] * d, a[1] * d) <= (x, y) <= (b[0] * d, b[1] * d)
+
+
 def lifted_from(a, b):
     """The way from a to b, and the square of its length as the height."""
     x = b[0] - a[0]
@@ -75,3 +83,14 @@ def spread_square(place, site):
     """The squared distance of a place (x, y, d) and a site, times d * d."""
     x, y, d = place
     return (x - d * site[0]) ** 2 + (y - d * site[1]) ** 2
+
+
+def enlarged(site, many):
+    """The site that is many times as far from (0, 0)."""
+    return (site[0] * many, site[1] * many)
+
+
+def depth_in_circle(a, b, c, place):
+    """1, 0 or -1 for a place inside of, on, or outside of the circle of a triangle turning left."""
+    x, y, d = place
+    return -sign(height_over(enlarged(a, d), enlarged(b, d), enlarged(c, d), (x, y)))

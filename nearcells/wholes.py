@@ -24,3 +24,20 @@ def fraction(top, bottom):
 def is_less(one, other):
     """Whether a fraction is less than another one."""
     return one[0] * other[1] < other[0] * one[1]
+
+
+def is_fraction(value):
+    """Whether a value is a tuple (numerator, denominator) in lowest terms."""
+    if not isinstance(value, tuple) or len(value) != 2:
+        return False
+    if not is_integer(value[0]) or not is_integer(value[1]):
+        return False
+    return value[1] >= 1 and gcd(value[0], value[1]) == 1
+
+
+def total(fractions):
+    """The sum of fractions."""
+    top, bottom = 0, 1
+    for one in fractions:
+        top, bottom = fraction(top * one[1] + one[0] * bottom, bottom * one[1])
+    return (top, bottom)

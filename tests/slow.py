@@ -48,14 +48,14 @@ def double_hull(sites):
     return sum((p[0] - q[0]) * (p[1] + q[1]) for p, q in zip(corners, corners[1:] + corners[:1]))
 
 
-def where(sites, x, y):
-    """By the half-planes through two sites with no site on the right."""
+def where(sites, x, y, ways=None):
+    """By the half-planes through two sites with no site on the right: ways are those."""
     point = (x, y)
     if in_row(sites):
         ends = (min(sites), max(sites))
         inside = turn(*ends, point) == 0 and ends[0] <= point <= ends[1]
         return 0 if inside else -1
-    least = min(turn(a, b, point) for a, b in border_ways(sites))
+    least = min(turn(a, b, point) for a, b in ways or border_ways(sites))
     return exact.compare(least, 0)
 
 

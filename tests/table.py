@@ -1,7 +1,8 @@
 """All functions of the package with valid arguments, and the kind of each argument.
 
-The kinds: sites, site, member (one of the sites), other (an unlike one of them),
-place, direction, triangles, edge (one that can be flipped), and free (any object).
+The kinds: sites, site, member (one of the sites), other (an unlike one of them), new
+(none of them), goal (none of them but the one that moves), place, end (an unlike place),
+direction, box, many, square, triangles, edge (one that can be flipped), and free (any object).
 """
 
 SITES = [(4, 0), (0, 0), (2, 1), (2, -1), (0, 5), (2, 3)]
@@ -42,4 +43,31 @@ TAKES = {
     "building.placed": [SET],
     "building.volume": [SET, WAY],
     "building.steps": [("order", SITES, "sites")],
+    "cells.cell": [SET, MEMBER],
+    "cells.vertices": [SET],
+    "cells.meeting": [SET, AT],
+    "cells.touching": [SET],
+    "cells.double_area": [SET, MEMBER],
+    "cells.boxed": [SET, MEMBER, ("box", (-1, 0, 5, 3), "box")],
+    "cells.along": [SET, ("a", PLACE, "place"), ("b", (1, -2, 1), "end")],
+    "asks.nearest": [SET, AT, ("many", 2, "many")],
+    "asks.closest": [SET],
+    "asks.farthest": [SET],
+    "asks.smallest_circle": [SET],
+    "asks.is_smallest": [SET, AT, ("square", (5, 1), "free"), ("paper", ((0, 0), (4, 0)), "free")],
+    "asks.largest_empty": [SET],
+    "asks.locate": [SET, AT],
+    "graphs.nearest_pairs": [SET],
+    "graphs.least_tree": [SET],
+    "graphs.tree_pairs": [SET],
+    "graphs.relative": [SET],
+    "graphs.gabriel": [SET],
+    "graphs.tree_count": [SET],
+    "graphs.is_least_tree": [SET, ("pairs", [((0, 0), (4, 0))], "free")],
+    "graphs.shape": [SET, ("square", (2, 1), "square")],
+    "moves.coming": [SET, ("site", (1, 1), "new")],
+    "moves.going": [SET, MEMBER],
+    "moves.covering": [SET, AT],
+    "moves.shares": [SET, AT],
+    "moves.moved": [SET, ("one", (0, 0), "member"), ("other", (1, 1), "goal")],
 }

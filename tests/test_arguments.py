@@ -9,13 +9,15 @@ from nearcells import signs
 from nearcells.errors import (CellError, InvalidBound, InvalidSites, InvalidTriangles, LimitExceeded,
                               NoCircle)
 from tests import samples
-from tests.table import CUT, SITES, TAKES
-from tests.wrong_values import (DEPTH, FAR, LONG, no_directions, no_edges, no_members,
-                                no_places, no_sites, wrong_sites, wrong_triangles)
+from tests.table import CUT, PLACE, SITES, TAKES
+from tests.wrong_values import (DEPTH, FAR, LONG, no_boxes, no_directions, no_edges, no_many, no_members,
+                                no_places, no_sites, no_squares, wrong_sites, wrong_triangles)
 
 BOUNDS = {"site": no_sites, "member": lambda: no_members(SITES), "place": no_places,
           "other": lambda: no_members(SITES) + [(0, 0)], "direction": no_directions,
-          "edge": lambda: no_edges(SITES)}
+          "edge": lambda: no_edges(SITES), "new": lambda: no_sites() + SITES,
+          "goal": lambda: no_sites() + [site for site in SITES if site != (0, 0)],
+          "end": lambda: no_places() + [PLACE], "box": no_boxes, "many": no_many, "square": no_squares}
 
 
 def wrong_values(argument, kind):
@@ -207,6 +209,17 @@ class Edges(unittest.TestCase):
     def test_directions_need_not_be_in_lowest_terms(self):
         for direction in ((2, 4), (0, -7), (LONG - 1, 0), (LONG - 1, 1 - LONG), (-1, 0)):
             self.assertIsNone(raised("hulls.extreme", [[(0, 0)], direction]))
+
+    def test_boxes_at_the_bounds(self):
+        most = 10 ** 7
+        for box in ((-most, -most, most, most), (most - 1, -most, most, 1 - most)):
+            self.assertIsNone(raised("cells.boxed", [SITES, (0, 0), box]))
+
+    def test_many_and_squares_at_the_bounds(self):
+        for many in (1, 6, 7, 200):
+            self.assertIsNone(raised("asks.nearest", [SITES, PLACE, many]))
+        for square in ((0, 1), (1, 10 ** 900), (10 ** 900, 1), (10 ** 900, 7)):
+            self.assertIsNone(raised("graphs.shape", [SITES, square]))
 
     def test_200_sites(self):
         for sites in (samples.grid(20, 10), samples.large()[0]):

@@ -139,3 +139,31 @@ def no_edges(sites):
     a, b = sorted(sites)[:2]
     told = neither() + [(b, a), (a, a), (a,), (a, b, b), [a, b], (a, (FAR, FAR))]
     return told + [(a, wrong) for wrong in no_sites()] + [(wrong, b) for wrong in no_sites()]
+
+
+def no_boxes():
+    """Values that are no boxes."""
+    most = 10 ** 7
+    told = neither() + [
+        (0, 0, 0, 1), (0, 0, 1, 0), (1, 0, 0, 1), (0, 1, 1, 0), (0, 0, 1), (0, 0, 1, 1, 1), [0, 0, 1, 1],
+        (-most - 1, 0, 1, 1), (0, -most - 1, 1, 1), (0, 0, most + 1, 1), (0, 0, 1, most + 1),
+        (False, 0, 1, 1), (0, False, 1, 1), (0, 0, True, 1), (0, 0, 1, True), (0, 0, 10 ** 900, 1)]
+    for wrong in (None, "1", [1], (1,), nested_tuple(), nested_list(), 1j):
+        told += [(wrong, 0, 1, 1), (0, wrong, 1, 1), (0, 0, wrong, 1), (0, 0, 1, wrong)]
+    return told
+
+
+def no_many():
+    """Values that are no integers from 1 to 200."""
+    return [value for value in neither() if value != 1 or isinstance(value, bool)] + [
+        0, -1, 201, 10 ** 900, True, False, (1,), [1], "1"]
+
+
+def no_squares():
+    """Values that are no fractions from 0 on."""
+    told = neither() + [
+        (-1, 1), (-1, 10 ** 30), (1, 0), (0, 0), (0, 2), (0, -1), (2, 2), (4, 6), (-3, -1), (3, -1), (1, 1, 1),
+        (1,), [1, 1], (True, 1), (False, 1), (0, True), (3, True), (10 ** 900, 10 ** 900)]
+    for wrong in (None, "1", [1], (1,), nested_tuple(), nested_list(), 1j):
+        told += [(wrong, 1), (1, wrong)]
+    return told
