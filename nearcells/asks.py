@@ -5,8 +5,8 @@ from itertools import combinations
 from nearcells.checks import ascending, check_many, check_place, is_site
 from nearcells.enclosing import circle_around, first_paper, holds, is_outside
 from nearcells.nearby import nearest_rows, site_at, spans_along
-from nearcells.outline import side_of_hull, sides_of
-from nearcells.plane import circle_through, is_on_way, place_of, spread_square, turn_to_place
+from nearcells.outline import corners_of, side_of_polygon, sides_of
+from nearcells.plane import circle_through, is_on_way, place_of, spread_square
 from nearcells.polygons import sorted_places
 from nearcells.subdivision import Subdivision
 from nearcells.wholes import fraction, is_fraction, is_less
@@ -85,9 +85,10 @@ def largest_empty(sites):
     places = [(rows[0][0], rows[0][1], 1)]
     for a, b in sides_of(rows):
         places.extend(parting_places(rows, a, b))
+    corners = corners_of(rows)
     for face in sub.parts:
         place = circle_through(face[0], face[1], face[2])[0]
-        if side_of_hull(rows, place) >= 0:
+        if side_of_polygon(corners, place) >= 0:
             places.append(place)
     best, centres = (0, 1), {}
     for place in places:
@@ -120,6 +121,6 @@ def locate(sites, place):
         if is_on_way(a, b, place):
             return ("edge", (a, b))
     for face in sub.parts:
-        if all([turn_to_place(a, b, place) > 0 for a, b in zip(face, face[1:] + face[:1])]):
+        if side_of_polygon(face, place) > 0:
             return ("face", list(face))
     return ("outside", None)

@@ -86,16 +86,16 @@ def shares(sites, place):
     here = site_at(sub.rows, place)
     if here is not None:
         return [(here, (1, 1))]
-    if len(sub.parts) == 0 or side_of_hull(sub.rows, place) < 1:
+    if side_of_hull(sub.rows, place) < 1:
         return None
     sides = outer_sides(faces_around(sub, place)[0])
     new = [centre_with(place, a, b) for a, b in sides]
     whole = double_area_of_places(new)
     told = []
     for site in sorted([a for a, _ in sides]):
+        # The centre of a face with the place inside of its circle is taken from all its corners.
         part = double_area_of_places(part_of(sub, site, new))
-        if part[0] > 0:
-            told.append((site, fraction(part[0] * whole[1], part[1] * whole[0])))
+        told.append((site, fraction(part[0] * whole[1], part[1] * whole[0])))
     return told
 
 

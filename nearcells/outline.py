@@ -1,6 +1,7 @@
 """The border of sites that are known to be valid and stand in ascending order."""
 
 from nearcells.plane import is_on_way, turn, turn_to_place
+from nearcells.wholes import sign
 
 
 def is_row(rows):
@@ -56,9 +57,10 @@ def side_of_hull(rows, place):
     """1, 0 or -1 for a place inside of, on the border of, or outside of the hull."""
     if is_row(rows):
         return 0 if is_on_way(rows[0], rows[-1], place) else -1
-    corners = corners_of(rows)
+    return side_of_polygon(corners_of(rows), place)
+
+
+def side_of_polygon(corners, place):
+    """1, 0 or -1 for a place inside of, on the border of, or outside of a convex polygon."""
     turns = [turn_to_place(a, b, place) for a, b in zip(corners, corners[1:] + corners[:1])]
-    least = min(turns)
-    if least == 0:
-        return 0
-    return 1 if least > 0 else -1
+    return sign(min(turns))

@@ -71,14 +71,6 @@ def height_over(a, b, c, d):
             + (cx * cx + cy * cy) * (ay * bx - ax * by))
 
 
-def lift_sign(a, b, c, d):
-    """Where the lift of d is: above (1), in (0) or below (-1) the plane.
-
-    The plane is the one through the lifts of the triangle a, b, c.
-    """
-    return sign(height_over(a, b, c, d)) * sign(turn(a, b, c))
-
-
 def spread_square(place, site):
     """The squared distance of a place (x, y, d) and a site, times d * d."""
     x, y, d = place

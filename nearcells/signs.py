@@ -1,35 +1,53 @@
 """Sides, circles and distances of a few sites."""
 
-from nearcells.checks import check_place, check_site
+from nearcells.checks import check_place, check_site, turn_of_sites
 from nearcells.errors import InvalidBound, NoCircle
-from nearcells.plane import circle_through, lift_sign, on_stretch, spread_square, turn
+from nearcells.plane import circle_through, height_over, spread_square
 from nearcells.wholes import fraction, sign
 
 
 def side(a, b, c):
     """1, 0 or -1 for a site c on the left of, on, or right of the line a b."""
-    check_site(a, "a")
-    check_site(b, "b")
+    area = turn_of_sites(a, b, c)
+    if area is None:
+        check_site(a, "a")
+        check_site(b, "b")
+        if a != b:
+            check_site(c, "c")
+    elif area > 0:
+        return 1
+    elif area < 0:
+        return -1
     if a == b:
         raise InvalidBound("b")
-    check_site(c, "c")
-    return sign(turn(a, b, c))
+    return 0
 
 
 def is_between(a, b, c):
     """Whether c is a point of the stretch from a to b, ends included."""
+    area = turn_of_sites(a, b, c)
+    if area is None:
+        check_three(a, b, c)
+    if area != 0:
+        return False
+    # The points of one line stand along it in the order of tuples.
+    return a <= c <= b or b <= c <= a
+
+
+def check_three(a, b, c):
+    """Raise InvalidBound for the first one of a, b and c that is no site."""
     check_site(a, "a")
     check_site(b, "b")
     check_site(c, "c")
-    return on_stretch(a, b, c)
 
 
 def circle(a, b, c):
     """The centre and the squared radius of the circle through three sites."""
-    check_site(a, "a")
-    check_site(b, "b")
-    check_site(c, "c")
-    check_corners(a, b, c)
+    area = turn_of_sites(a, b, c)
+    if area is None:
+        check_three(a, b, c)
+    if area == 0:
+        raise NoCircle()
     return circle_through(a, b, c)
 
 
@@ -40,18 +58,14 @@ def in_circle(a, b, c, d):
 
 def lift_side(a, b, c, d):
     """1, 0 or -1 for the lift of d above, in, or below the plane of a b c."""
-    check_site(a, "a")
-    check_site(b, "b")
-    check_site(c, "c")
+    area = turn_of_sites(a, b, c)
+    if area is None:
+        check_three(a, b, c)
     check_site(d, "d")
-    check_corners(a, b, c)
-    return lift_sign(a, b, c, d)
-
-
-def check_corners(a, b, c):
-    """Raise NoCircle if three sites are no corners of a triangle."""
-    if turn(a, b, c) == 0:
+    if area == 0:
         raise NoCircle()
+    # The height is told for a triangle that turns left, with the other sign for others.
+    return sign(height_over(a, b, c, d)) * sign(area)
 
 
 def square(place, site):

@@ -70,21 +70,10 @@ def centres(sites, a, b):
     """The bounds (low, high) of the centres of circles through a and b without a site inside."""
     rows = ascending(sites)
     check_two(a, b, rows)
-    return bounds(rows, a, b)
-
-
-def bounds(rows, a, b):
-    """What centres tells, for two unlike ones of ascending sites."""
     if between(rows, a, b) is not None:
         return None
-    low, high = None, None
-    for site in rows:
-        area = turn(a, b, site)
-        if area > 0 and (high is None or is_less(centre_at(a, b, site), high)):
-            high = centre_at(a, b, site)
-        if area < 0 and (low is None or is_less(low, centre_at(a, b, site))):
-            low = centre_at(a, b, site)
-    return (low, high)
+    low, high = bounds(rows, a, b)
+    return (None if low is None else fraction(*low), None if high is None else fraction(*high))
 
 
 def between(rows, a, b):
@@ -95,13 +84,25 @@ def between(rows, a, b):
     return None
 
 
-def centre_at(a, b, site):
-    """Where the centre of the circle through three sites is: t, as in centres."""
+def bounds(rows, a, b):
+    """What centres tells if no site is between a and b, as tuples that may have a common divisor."""
+    low, high = None, None
+    for site in rows:
+        area = turn(a, b, site)
+        if area > 0:
+            share = centre_share(a, b, site)
+            high = share if high is None or is_less(share, high) else high
+        elif area < 0:
+            share = centre_share(a, b, site)
+            low = share if low is None or is_less(low, share) else low
+    return (low, high)
+
+
+def centre_share(a, b, site):
+    """Where the centre of the circle through three sites is: t as a numerator and a denominator."""
     scalar = (site[0] - a[0]) * (site[0] - b[0]) + (site[1] - a[1]) * (site[1] - b[1])
     double = 2 * turn(a, b, site)
-    if double < 0:
-        return fraction(-scalar, -double)
-    return fraction(scalar, double)
+    return (scalar, double) if double > 0 else (-scalar, -double)
 
 
 def avoided(sites, a, b):
@@ -116,9 +117,9 @@ def avoided(sites, a, b):
         return None
     # Circles with a site on the right inside have their centres below its own,
     # and those with one on the left inside have them above.
-    right = [s for s in rows if turn(a, b, s) < 0 and not is_less(centre_at(a, b, s), high)]
-    bound = centre_at(a, b, right[0])
-    left = [s for s in rows if turn(a, b, s) > 0 and not is_less(bound, centre_at(a, b, s))]
+    right = [s for s in rows if turn(a, b, s) < 0 and not is_less(centre_share(a, b, s), high)]
+    bound = centre_share(a, b, right[0])
+    left = [s for s in rows if turn(a, b, s) > 0 and not is_less(bound, centre_share(a, b, s))]
     return (right[0], left[0])
 
 

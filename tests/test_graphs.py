@@ -58,7 +58,8 @@ class Graphs(unittest.TestCase):
 
     def test_each_is_part_of_the_next(self):
         for sites in samples.small() + samples.middling() + samples.large():
-            told = [nearest_pairs(sites), tree_pairs(sites), relative(sites), gabriel(sites), Subdivision(sites).edges()]
+            told = [nearest_pairs(sites), tree_pairs(sites), relative(sites), gabriel(sites),
+                    Subdivision(sites).edges()]
             for one, other in zip(told, told[1:]):
                 self.assertLessEqual(set(one), set(other))
                 self.assertEqual(one, sorted(one))

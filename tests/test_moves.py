@@ -51,12 +51,14 @@ class Coming(unittest.TestCase):
     def test_inside_and_on_a_circle(self):
         self.assertEqual(coming(SQUARE, (1, 1)), ([FACE], [], [], SPOKES))
         told = coming(SQUARE[:3], (2, 2))
-        self.assertEqual(told, ([], [[(0, 0), (2, 0), (0, 2)]], [((0, 2), (2, 0))], [((0, 2), (2, 2)), ((2, 0), (2, 2))]))
+        self.assertEqual(told, ([], [[(0, 0), (2, 0), (0, 2)]], [((0, 2), (2, 0))],
+                                [((0, 2), (2, 2)), ((2, 0), (2, 2))]))
 
     def test_on_an_edge_outside_and_in_the_row(self):
         told = coming([(0, 0), (4, 0), (0, 4)], (2, 0))
         self.assertEqual(told[2:], ([((0, 0), (4, 0))], [((0, 0), (2, 0)), ((0, 4), (2, 0)), ((2, 0), (4, 0))]))
-        self.assertEqual(coming([(0, 0), (2, 0)], (1, 0)), ([], [], [((0, 0), (2, 0))], [((0, 0), (1, 0)), ((1, 0), (2, 0))]))
+        told = coming([(0, 0), (2, 0)], (1, 0))
+        self.assertEqual(told, ([], [], [((0, 0), (2, 0))], [((0, 0), (1, 0)), ((1, 0), (2, 0))]))
         self.assertEqual(coming([(0, 0)], (1, 0)), ([], [], [], [((0, 0), (1, 0))]))
         self.assertEqual(coming([(0, 0), (2, 0)], (1, 1))[2:], ([], [((0, 0), (1, 1)), ((1, 1), (2, 0))]))
 

@@ -73,7 +73,7 @@ def neither():
 def no_sites():
     """Values that are no sites, those near to a site among them."""
     return neither() + [
-        (0, 0, 1), (True, 0), (0, False), (True, True), (None, 0), (0, "0"), (0, b"0"), (0, [0]),
+        (0, 0, 1), (True, 0), (False, 0), (0, True), (0, False), (True, True), (None, 0), (0, "0"), (0, b"0"), (0, [0]),
         (FAR + 1, 0), (0, FAR + 1), (-FAR - 1, 0), (0, -FAR - 1), (10 ** 40, 0), (0, -10 ** 900),
         (0, 1j), [FAR, FAR],
     ]
@@ -84,7 +84,7 @@ def no_places():
     return neither() + [
         (0, 0), (0, 0, 0), (1, 1, 0), (1, 0, 0), (0, 0, -1), (1, 1, -1), (-1, -1, -2), (3, 4, -5),
         (2, 2, 2), (0, 0, 2), (4, 6, 2), (-3, 6, 9), (0, 10 ** 20, 10 ** 20),
-        (True, 0, 1), (0, False, 1), (0, 0, True), (None, 0, 1), (0, "0", 1), (0, 0, "1"),
+        (True, 0, 1), (False, 1, 1), (0, True, 1), (0, False, 1), (0, 0, True), (None, 0, 1), (0, "0", 1), (0, 0, "1"),
         (LONG, 1, 1), (1, LONG, 1), (1, 1, LONG), (-LONG, 1, 1), (1, -LONG, 1), (1, 1, -LONG),
         (LONG, 1, 0), (10 ** 900, 0, 1), (0, 0, [1]), (0, 0, 1j),
     ]
