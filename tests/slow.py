@@ -86,19 +86,21 @@ def bounds(sites, a, b):
     for s in sites:
         if s in (a, b):
             continue
+        # All numbers twice as large, so that the middle is whole.
         room = []
-        for t in (0, 1):
-            x = Fraction(a[0] + b[0], 2) - t * (b[1] - a[1])
-            y = Fraction(a[1] + b[1], 2) + t * (b[0] - a[0])
-            room.append(exact.distance(x, y, s) - exact.distance(x, y, a))
+        for t in (0, 2):
+            x = a[0] + b[0] - t * (b[1] - a[1])
+            y = a[1] + b[1] + t * (b[0] - a[0])
+            far, near = [(x - 2 * q[0]) ** 2 + (y - 2 * q[1]) ** 2 for q in (s, a)]
+            room.append(far - near)
         slope = room[1] - room[0]
         if slope == 0:
             if room[0] < 0:
                 return None
         elif slope > 0:
-            low = -room[0] / slope if low is None else max(low, -room[0] / slope)
+            low = Fraction(-room[0], slope) if low is None else max(low, Fraction(-room[0], slope))
         else:
-            high = -room[0] / slope if high is None else min(high, -room[0] / slope)
+            high = Fraction(-room[0], slope) if high is None else min(high, Fraction(-room[0], slope))
     return (low, high)
 
 

@@ -217,5 +217,5 @@ class Locate(unittest.TestCase):
 
     def test_against_a_plain_way(self):
         for number, sites in enumerate(samples.small()):
-            for place in some_places(sites, 8, number):
+            for place in some_places(sites, 5, number):
                 self.assertEqual(locate(sites, place), slow_cells.locate(sites, place), (sites, place))

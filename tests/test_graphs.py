@@ -69,7 +69,7 @@ class Graphs(unittest.TestCase):
 class Trees(unittest.TestCase):
     def test_against_all_trees(self):
         few = [sites for sites in samples.small(50, 5) if 1 < len(sites) <= 5]
-        for sites in few + [samples.grid(3, 2), samples.RING[:6], samples.anywhere(6, 2, random.Random(8))]:
+        for sites in few + [samples.grid(3, 2)]:
             with self.subTest(sites=sites):
                 trees = slow_cells.least_trees(sites)
                 self.assertEqual(tree_count(sites), len(trees), sites)
@@ -105,7 +105,7 @@ class Trees(unittest.TestCase):
         self.assertEqual(tree_count(blocks), 4 ** 3 * 2 ** 2)
 
     def test_count_against_a_plain_determinant(self):
-        for sites in samples.middling() + [samples.grid(6, 5), samples.large()[1][:60]]:
+        for sites in samples.middling() + [samples.grid(5, 4), samples.large()[1][:40]]:
             self.assertEqual(tree_count(sites), count_by_lengths(sites))
 
     def test_is_least_tree_for_all_lists_of_pairs(self):
