@@ -62,7 +62,8 @@ def touching(sites):
     sub = Subdivision(sites)
     pairs = {edge: True for edge in sub.lines}
     for face in sub.parts:
-        for a, b in combinations(sorted(face), 2):
+        corners = sorted(face)
+        for a, b in combinations(corners, 2):
             pairs[(a, b)] = True
     return sorted(pairs)
 
@@ -88,7 +89,7 @@ def boxed(sites, site, box):
 def part_of(sub, site, places):
     """The part of a convex polygon that is in the cell of a site."""
     for other in sub.neighbours(site):
-        places = cut(places, side_nearer((site[0], site[1], 1), (other[0], other[1], 1)))
+        places = cut(places, side_nearer(site, other))
     return places
 
 

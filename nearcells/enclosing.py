@@ -75,7 +75,8 @@ def first_paper(on, place):
         if holds(pair, place):
             return pair
     # The least site is in a triple: the triangles from it fill the polygon of all.
-    for b, c in combinations(on[1:], 2):
-        if holds((on[0], b, c), place):
-            return (on[0], b, c)
+    first, others = on[0], on[1:]
+    for b, c in combinations(others, 2):
+        if holds((first, b, c), place):
+            return (first, b, c)
     return None

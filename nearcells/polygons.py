@@ -24,16 +24,14 @@ def sorted_places(places):
     return sorted(places, key=lambda place: place_key(place, scale))
 
 
-def side_nearer(one, other):
-    """The half-plane of what is at least as near to one place as to another one.
+def side_nearer(site, other):
+    """The half-plane of what is at least as near to one site as to another one.
 
     It is told as (u, v, w): a place (x, y, d) is in it for u * x + v * y + w * d from 0 on.
     """
-    ax, ay, ad = one
-    bx, by, bd = other
-    u = 2 * (ax * bd - bx * ad) * ad * bd
-    v = 2 * (ay * bd - by * ad) * ad * bd
-    return (u, v, (bx * bx + by * by) * ad * ad - (ax * ax + ay * ay) * bd * bd)
+    ax, ay = site
+    bx, by = other
+    return (2 * (ax - bx), 2 * (ay - by), bx * bx + by * by - ax * ax - ay * ay)
 
 
 def cut(places, half):
