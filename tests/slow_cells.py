@@ -173,13 +173,18 @@ def nearest_pairs(sites):
             if any(length(pair) == min(length(q) for q in pairs if s in q) for s in pair)]
 
 
-def is_joined(sites, pairs):
-    """Whether pairs join all sites."""
-    reached, ahead = set(), {sites[0]}
+def reached_from(site, pairs):
+    """All sites that pairs join with one."""
+    reached, ahead = set(), {site}
     while ahead:
         reached |= ahead
         ahead = {b for pair in pairs for a, b in (pair, pair[::-1]) if a in reached} - reached
-    return len(reached) == len(sites)
+    return reached
+
+
+def is_joined(sites, pairs):
+    """Whether pairs join all sites."""
+    return len(reached_from(sites[0], pairs)) == len(sites)
 
 
 def least_trees(sites):

@@ -135,6 +135,12 @@ class Touching(unittest.TestCase):
                     right.append((a, b))
             self.assertEqual(touching(sites), right)
 
+    def test_edges_and_diagonals_of_faces(self):
+        for sites in samples.small(60) + samples.middling() + samples.large():
+            sub = Subdivision(sites)
+            pairs = {pair for face in sub.faces() for pair in combinations(sorted(face), 2)}
+            self.assertEqual(touching(sites), sorted(pairs | set(sub.edges())))
+
     def test_a_large_ring(self):
         ring = samples.far_ring()[:200]
         self.assertEqual(touching(ring), list(combinations(sorted(ring), 2)))

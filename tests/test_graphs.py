@@ -90,6 +90,16 @@ class Trees(unittest.TestCase):
             self.assertEqual(least_tree(sites), taken)
             self.assertTrue(is_least_tree(sites, taken[::-1]))
 
+    def test_tree_pairs_are_not_joined_by_shorter_ones(self):
+        for sites in samples.small(60) + samples.middling():
+            pairs = list(combinations(sorted(sites), 2))
+            right = []
+            for a, b in pairs:
+                shorter = [pair for pair in pairs if slow_cells.length(pair) < slow_cells.length((a, b))]
+                if b not in slow_cells.reached_from(a, shorter):
+                    right.append((a, b))
+            self.assertEqual(tree_pairs(sites), right)
+
     def test_counts_of_known_graphs(self):
         # Ladders have 1, 4, 15, 56 .. trees, and a square grid of 3 by 3 sites 192.
         counts = [tree_count(samples.grid(n, 2)) for n in range(1, 7)]
