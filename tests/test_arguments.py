@@ -9,21 +9,32 @@ from nearcells import signs
 from nearcells.errors import (CellError, InvalidBound, InvalidSites, InvalidTriangles, LimitExceeded,
                               NoCircle)
 from tests import samples
-from tests.table import CUT, PLACE, SITES, TAKES
-from tests.wrong_values import (DEPTH, FAR, LONG, no_boxes, no_directions, no_edges, no_many, no_members,
-                                no_places, no_sites, no_squares, wrong_sites, wrong_triangles)
+from nearcells.desks import Desk
+from tests.table import CUT, HEAVY, PLACE, SITES, TAKES
+from tests.wrong_values import (DEPTH, FAR, LONG, neither, no_boxes, no_deeds, no_directions, no_edges, no_heavy,
+                                no_many, no_members, no_numbers, no_places, no_sites, no_squares, no_weighted,
+                                wrong_sites, wrong_told, wrong_triangles, wrong_weighted)
 
 BOUNDS = {"site": no_sites, "member": lambda: no_members(SITES), "place": no_places,
           "other": lambda: no_members(SITES) + [(0, 0)], "direction": no_directions,
           "edge": lambda: no_edges(SITES), "new": lambda: no_sites() + SITES,
           "goal": lambda: no_sites() + [site for site in SITES if site != (0, 0)],
-          "end": lambda: no_places() + [PLACE], "box": no_boxes, "many": no_many, "square": no_squares}
+          "end": lambda: no_places() + [PLACE], "box": no_boxes, "many": no_many, "square": no_squares,
+          "spot": no_weighted, "heavy": lambda: no_heavy(HEAVY[1]), "told": lambda: wrong_told(SITES),
+          "one": lambda: no_numbers(1, FAR), "two": lambda: no_numbers(2, FAR),
+          "shift": lambda: no_numbers(-FAR, FAR), "low": lambda: no_numbers(-FAR, FAR),
+          "high": lambda: no_numbers(-2, FAR), "height": lambda: no_numbers(1, None),
+          "tall": lambda: no_numbers(2, None), "deeds": no_deeds,
+          "desk": lambda: [value for value in neither() if not isinstance(value, Desk)]}
+LISTS = {"sites", "weighted", "triangles", "told"}
 
 
 def wrong_values(argument, kind):
     """The values that are wrong for an argument, each with the error that it raises."""
     if kind == "sites":
         return [(value, (InvalidSites, at)) for value, at in wrong_sites()]
+    if kind == "weighted":
+        return [(value, (InvalidSites, at)) for value, at in wrong_weighted()]
     if kind == "triangles":
         return [(value, (InvalidTriangles, at)) for value, at in wrong_triangles(SITES, CUT)]
     if kind == "free":
@@ -70,7 +81,7 @@ class Wrong(unittest.TestCase):
                         self.assertEqual(raised(name, values), right)
 
     def test_the_first_of_several_is_told(self):
-        raises = {"sites": (InvalidSites, -1), "triangles": (InvalidTriangles, -1)}
+        raises = {"sites": (InvalidSites, -1), "weighted": (InvalidSites, -1), "triangles": (InvalidTriangles, -1)}
         for name, takes in TAKES.items():
             for choice in product((False, True), repeat=len(takes)):
                 values = [None if wrong else value for wrong, value in zip(choice, valid(name))]
@@ -143,7 +154,8 @@ class Told(unittest.TestCase):
                 values = valid(name)
                 right = function_of(name)(*values)
                 for turns in range(1, 6):
-                    mixed = [mix(value, turns) for value in values]
+                    mixed = [mix(value, turns) if kind in LISTS else value
+                             for value, (_, _, kind) in zip(values, TAKES[name])]
                     self.assertTrue(function_of(name)(*mixed) == right, name)
 
     def test_results_belong_to_the_caller(self):
@@ -154,17 +166,37 @@ class Told(unittest.TestCase):
             self.assertEqual(values, valid(name), name)
             self.assertTrue(function_of(name)(*values) == right, name)
 
+    def test_lists_that_change_between_two_calls(self):
+        for name, takes in TAKES.items():
+            for at, (_, value, kind) in enumerate(takes):
+                if isinstance(value, list):
+                    values = valid(name)
+                    told = [outcome(name, values)]
+                    # Another item in a place, one more, and back again.
+                    for change in (lambda rows: rows.__setitem__(0, rows[0][:1] + (7, *rows[0][2:])
+                                                                 if isinstance(rows[0], tuple) else 7),
+                                   lambda rows: rows.reverse(), lambda rows: rows.pop()):
+                        change(values[at])
+                        told.append(outcome(name, values))
+                        self.assertEqual(told[-1], outcome(name, copy.deepcopy(values)), (name, at))
+                    values[at][:] = copy.deepcopy(value)
+                    self.assertEqual(outcome(name, values), told[0], (name, at))
+
     def test_integers_are_told_as_integers(self):
         for name in TAKES:
             for number in atoms(function_of(name)(*valid(name))):
                 self.assertIn(type(number), (int, bool, str, type(None)), name)
 
 
+def outcome(name, values):
+    """What a call returns, or the error that it raises."""
+    error = error_of(lambda: function_of(name)(*values))
+    return ("returns", function_of(name)(*values)) if error is None else error
+
+
 def mix(value, turns):
-    """A list of sites or triangles in another order; other values as they are."""
-    if isinstance(value, list):
-        return value[turns:] + value[:turns] if turns % 2 else value[turns::-1] + value[:turns:-1]
-    return value
+    """A list in another order."""
+    return value[turns:] + value[:turns] if turns % 2 else value[turns::-1] + value[:turns:-1]
 
 
 def spoil(value):
@@ -180,7 +212,7 @@ def spoil(value):
 def atoms(value):
     if isinstance(value, (list, tuple)):
         return [one for item in value for one in atoms(item)]
-    return [value] if not hasattr(value, "edges") else atoms(value.edges() + value.faces() + value.triangles())
+    return [value] if not hasattr(value, "edges") else atoms(value.sites() + value.edges() + value.faces())
 
 
 class Edges(unittest.TestCase):

@@ -77,12 +77,68 @@ FUNCTIONS = {
         "shares": "sites place",
         "moved": "sites one other",
     },
+    "ways": {
+        "all_ways": "sites",
+        "sure_edges": "sites",
+        "flips": "sites triangles",
+        "fewest_flips": "sites one other",
+        "angles": "sites triangles",
+        "best_way": "sites",
+    },
+    "powers": {
+        "power": "place site",
+        "least_power": "sites place",
+        "kind": "sites site",
+        "power_edges": "sites",
+        "power_faces": "sites",
+        "power_vertices": "sites",
+        "cover": "sites site",
+    },
+    "regular": {
+        "regular": "sites triangles",
+        "is_weights": "sites triangles weights",
+        "is_paper": "sites triangles paper",
+    },
+    "bound": {
+        "sees": "sites told a b",
+        "seen_from": "sites told site",
+        "bound_faces": "sites told",
+        "bound_edges": "sites told",
+        "bound_triangles": "sites told",
+        "bound_wrong": "sites told triangles",
+        "crossed": "sites triangles a b",
+    },
+    "farthest": {
+        "farthest_from": "sites place",
+        "far_cell": "sites site",
+        "far_vertices": "sites",
+        "far_edges": "sites",
+        "far_faces": "sites",
+        "far_met": "sites place",
+        "is_far_edge": "sites a b",
+    },
+    "shapes": {
+        "counts": "sites",
+        "grid": "m n",
+        "grid_counts": "m n",
+        "two_rows": "m n shift height",
+        "two_rows_counts": "m n shift",
+        "parabola": "low high",
+        "parabola_counts": "low high",
+        "zigzag": "m n height",
+        "zigzag_counts": "m n",
+    },
+    "desks": {"replay": "deeds", "unlike": "one other"},
 }
 # The methods that the interface lists, besides their own object.
 METHODS = {
     "Subdivision": {
         "sites": "", "edges": "", "triangles": "", "faces": "", "neighbours": "site",
         "face_circle": "face", "__eq__": "other",
+    },
+    "Desk": {
+        "put": "site", "take": "site", "move": "site other", "sites": "", "edges": "", "faces": "",
+        "changes": "", "deeds": "", "undo": "", "redo": "", "__eq__": "other",
     },
 }
 CLASSES = {
@@ -96,6 +152,7 @@ CLASSES = {
         "LimitExceeded": "limit",
     },
     "subdivision": {"Subdivision": "sites"},
+    "desks": {"Desk": ""},
 }
 
 

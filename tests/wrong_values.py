@@ -1,6 +1,8 @@
 """Values that are no sites, no places, or neither, to be passed as arguments."""
 
 from nearcells import errors
+from nearcells.desks import Desk
+from nearcells.subdivision import Subdivision
 
 DEPTH = 2000
 FAR = 10 ** 6
@@ -57,6 +59,7 @@ def error_objects():
 def neither():
     """Objects of many built-in types, none of them a site or a place."""
     return error_objects() + [
+        Subdivision([(0, 0), (1, 1)]), Desk(),
         None, True, False, 0, 1, -5, 10 ** 40, 2j, "", "ab", "abc", "00", b"", b"ab", b"abc",
         [], [0, 0], [0, 0, 1], [(0, 0)], {}, {0: 0, 1: 0}, {"a": []}, set(), {0, 1}, {0, 1, 2},
         frozenset((0, 1)), bytearray(b"ab"), memoryview(b"abc"), range(2), range(3), slice(0, 1),
@@ -166,4 +169,61 @@ def no_squares():
         (1,), [1, 1], (True, 1), (False, 1), (0, True), (3, True), (10 ** 900, 10 ** 900)]
     for wrong in (None, "1", [1], (1,), nested_tuple(), nested_list(), 1j):
         told += [(wrong, 1), (1, wrong)]
+    return told
+
+
+def no_weighted(beside=()):
+    """Values that are no weighted sites."""
+    most = 10 ** 13
+    told = neither() + [
+        (0, 0), (0, 0, 0, 0), [0, 0, 0], ((0, 0), 0), (0, 0, most + 1), (0, 0, -most - 1), (FAR + 1, 0, 0),
+        (0, -FAR - 1, 0), (0, 0, True), (0, False, 0), (True, 0, 0), (0, 0, 10 ** 900), (0, 0, nested_list())]
+    for wrong in (None, "1", [1], (1,), nested_tuple(), 1j):
+        told += [(wrong, 0, 0), (0, wrong, 0), (0, 0, wrong)]
+    return [value for value in told if value != (0, 0, 1)] + list(beside)
+
+
+def no_heavy(sites):
+    """Values that are none of the weighted sites."""
+    return no_weighted() + [(x, y, w + 1) for x, y, w in sites] + [(9, 9, 0)]
+
+
+def wrong_weighted():
+    """Values that are no lists of weighted sites, each with the at that is told."""
+    told = [(value, -1) for value in no_weighted() if not isinstance(value, list)] + [([], 0)]
+    for wrong in no_weighted() + [(4, 0, 9), (4, 0, 0)]:
+        told += [([(0, 0, 0), (4, 0, 0), wrong], 2), ([(4, 0, 0), wrong, (1, 1, 0), wrong], 1)]
+    many = [(x, y, x - y) for x in range(7) for y in range(5)]
+    told += [(many[:31], 30), (many, 30), (many[:30] + [None], 30), (many[:30] + [many[0]], 30)]
+    told += [(many[:29] + [(0, 0, 5)], 29), ([(0, 0)], 0), ([own_list()], 0)]
+    return told
+
+
+def wrong_told(sites):
+    """Values that are no told edges of the sites of the table."""
+    a, b = sites[:2]
+    told = [value for value in neither() if value != []] + [((a, b),), [a, b], [[a, b]], [(a, b)] * 201]
+    for wrong in no_members(sites) + [a]:
+        told += [[(a, wrong)], [(a, b), (wrong, a)]]
+    for wrong in neither() + [(a,), (a, b, b), (a, a)]:
+        told.append([(a, b), wrong])
+    # Crossing, and with another site between.
+    return told + [[((0, 0), (4, 0)), ((2, -1), (2, 1))], [((2, -1), (2, 3))]]
+
+
+def no_numbers(low, high, name=None):
+    """Values that are no integers from low to high; high may be None."""
+    told = [value for value in neither() if not isinstance(value, int) or isinstance(value, bool)]
+    told += [low - 1, -10 ** 900, (low,), [low], True]
+    return told if high is None else told + [high + 1, 10 ** 900]
+
+
+def no_deeds():
+    """Values that are no lists of deeds."""
+    told = [value for value in neither() if value != []] + [(("put", (0, 0)),), {("put", (0, 0)): True}]
+    for wrong in neither() + [("put",), ("put", (0, 0), (0, 0)), ("take",), ("move", (0, 0)), ["put", (0, 0)],
+                              ("Put", (0, 0)), ("", (0, 0)), (b"put", (0, 0)), ((0, 0), "put"), ("undo",),
+                              (nested_tuple(), (0, 0)), (None, (0, 0)), ("move", (0, 0), (1, 1), (2, 2))]:
+        # Wrong items come ahead of what the deeds do.
+        told += [[wrong], [("put", (0, 0)), wrong], [("take", (0, 0)), wrong], [("put", None), wrong]]
     return told

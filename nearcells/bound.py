@@ -1,0 +1,95 @@
+"""The subdivision with edges that are told ahead."""
+
+from nearcells.checks import ascending, check_member, check_two
+from nearcells.errors import InvalidTriangles, LimitExceeded
+from nearcells.faces import corners_before, faces_of, fans_of
+from nearcells.mesh import inner_edges, is_joined, is_wrong, told_edge
+from nearcells.plane import turn
+from nearcells.told import bound_mesh, crossing_edges, is_crossed, is_split, told_edges
+from nearcells.triangles import triangulation
+
+MOST_BOUND = 40
+
+
+def at_most_bound(rows):
+    """Raise LimitExceeded for more sites than the functions here take."""
+    if len(rows) > MOST_BOUND:
+        raise LimitExceeded(MOST_BOUND)
+
+
+def sees(sites, told, a, b):
+    """Whether two sites see each other: nothing is between them, and no told edge crosses."""
+    rows = ascending(sites)
+    edges = told_edges(told, rows)
+    check_two(a, b, rows)
+    at_most_bound(rows)
+    return is_open(rows, edges, a, b)
+
+
+def is_open(rows, edges, a, b):
+    """What sees tells, for told edges that are known to be valid."""
+    return not is_split(rows, a, b) and not is_crossed(edges, a, b)
+
+
+def seen_from(sites, told, site):
+    """The sites that a site sees, ascending."""
+    rows = ascending(sites)
+    edges = told_edges(told, rows)
+    check_member(site, rows, "site")
+    at_most_bound(rows)
+    return [other for other in rows if other != site and is_open(rows, edges, site, other)]
+
+
+def bound_faces(sites, told):
+    """The faces of the subdivision with told edges, ascending."""
+    return faces_of(bound_parts(sites, told)[1])
+
+
+def bound_edges(sites, told):
+    """The sides of the faces with told edges, ascending."""
+    return bound_parts(sites, told)[0]
+
+
+def bound_triangles(sites, told):
+    """The triangles that the faces with told edges are cut into, ascending."""
+    return sorted([triangle for face in bound_faces(sites, told) for triangle in fans_of(face)])
+
+
+def bound_parts(sites, told):
+    """The edges with told ones, and for each side of a face the corner ahead of it."""
+    rows = ascending(sites)
+    edges = told_edges(told, rows)
+    at_most_bound(rows)
+    mesh = bound_mesh(rows, edges)
+    if len(mesh) == 0:
+        return (list(zip(rows, rows[1:])), {})
+    sides = {told_edge(a, b): True for a, b in mesh}
+    joined = sorted([(a, b) for a, b in sides if (a, b) in edges or is_joined(mesh, a, b)])
+    return (joined, corners_before(mesh, joined))
+
+
+def bound_wrong(sites, told, triangles):
+    """The least edge at which a triangulation with told edges is not right for them, or None."""
+    rows = ascending(sites)
+    edges = told_edges(told, rows)
+    mesh = triangulation(rows, triangles)
+    if len(mesh) > 0 and not all([(a, b) in mesh or (b, a) in mesh for a, b in edges]):
+        raise InvalidTriangles(len(triangles))
+    at_most_bound(rows)
+    wrong = [(a, b) for a, b in inner_edges(mesh) if (a, b) not in edges and is_wrong(mesh, a, b)]
+    return min(wrong, default=None)
+
+
+def crossed(sites, triangles, a, b):
+    """The edges of a triangulation that the stretch between two sites crosses, in their order."""
+    rows = ascending(sites)
+    mesh = triangulation(rows, triangles)
+    check_two(a, b, rows)
+    at_most_bound(rows)
+    found = crossing_edges(mesh, a, b)
+    # How far from a they are crossed: a share of the way, by the areas at both ends.
+    shares = [(abs(turn(c, d, a)), abs(turn(c, d, a)) + abs(turn(c, d, b))) for c, d in found]
+    # Unlike shares with denominators up to that differ by at least 1 over its square.
+    scale = max([bottom for _, bottom in shares], default=1) ** 2
+    ranked = sorted([(top * scale // bottom, edge) for (top, bottom), edge in zip(shares, found)])
+    return [edge for _, edge in ranked]
