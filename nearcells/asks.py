@@ -4,10 +4,11 @@ from itertools import combinations
 
 from nearcells.checks import ascending, check_many, check_place, is_site
 from nearcells.enclosing import circle_around, first_paper, holds, is_outside
+from nearcells.links import faces_of, linked
 from nearcells.nearby import nearest_rows, site_at, spans_along
 from nearcells.outline import corners_of, side_of_polygon, sides_of
 from nearcells.plane import circle_through, is_on_way, place_of, spread_square
-from nearcells.polygons import sorted_places
+from nearcells.polygons import sorted_by_place
 from nearcells.subdivision import Subdivision
 from nearcells.wholes import fraction, is_fraction, is_less
 
@@ -80,13 +81,12 @@ def is_paper(value, rows):
 
 def largest_empty(sites):
     """The greatest square of an empty circle with its centre in the hull, and all such circles."""
-    sub = Subdivision(sites)
-    rows = sub.rows
+    rows = ascending(sites)
     places = [(rows[0][0], rows[0][1], 1)]
     for a, b in sides_of(rows):
         places.extend(parting_places(rows, a, b))
     corners = corners_of(rows)
-    for face in sub.parts:
+    for face in faces_of(rows, linked(rows)):
         place = circle_through(face[0], face[1], face[2])[0]
         if side_of_polygon(corners, place) >= 0:
             places.append(place)
@@ -98,7 +98,7 @@ def largest_empty(sites):
             best, centres = square, {}
         if square == best:
             centres[place] = near
-    return (best, [(place, centres[place]) for place in sorted_places(list(centres))])
+    return (best, sorted_by_place([(place, centres[place]) for place in centres]))
 
 
 def parting_places(rows, a, b):
@@ -117,10 +117,10 @@ def locate(sites, place):
     site = site_at(sub.rows, place)
     if site is not None:
         return ("site", site)
-    for a, b in sub.lines:
+    for a, b in sub.edges():
         if is_on_way(a, b, place):
             return ("edge", (a, b))
-    for face in sub.parts:
+    for face in sub.faces():
         if side_of_polygon(face, place) > 0:
-            return ("face", list(face))
+            return ("face", face)
     return ("outside", None)

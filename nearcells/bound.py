@@ -2,9 +2,10 @@
 
 from nearcells.checks import ascending, check_member, check_two
 from nearcells.errors import InvalidTriangles, LimitExceeded
-from nearcells.faces import corners_before, faces_of, fans_of
-from nearcells.mesh import inner_edges, is_joined, is_wrong, told_edge
-from nearcells.plane import turn
+from nearcells.links import edges_of, faces_of, fans_of, linked, links_of
+from nearcells.mesh import inner_edges, is_wrong
+from nearcells.outline import is_row
+from nearcells.plane import height_over, turn
 from nearcells.told import bound_mesh, crossing_edges, is_crossed, is_split, told_edges
 from nearcells.triangles import triangulation
 
@@ -42,12 +43,14 @@ def seen_from(sites, told, site):
 
 def bound_faces(sites, told):
     """The faces of the subdivision with told edges, ascending."""
-    return faces_of(bound_parts(sites, told)[1])
+    rows, links = bound_links(sites, told)
+    return faces_of(rows, links)
 
 
 def bound_edges(sites, told):
     """The sides of the faces with told edges, ascending."""
-    return bound_parts(sites, told)[0]
+    rows, links = bound_links(sites, told)
+    return edges_of(rows, links)
 
 
 def bound_triangles(sites, told):
@@ -55,17 +58,17 @@ def bound_triangles(sites, told):
     return sorted([triangle for face in bound_faces(sites, told) for triangle in fans_of(face)])
 
 
-def bound_parts(sites, told):
-    """The edges with told ones, and for each side of a face the corner ahead of it."""
+def bound_links(sites, told):
+    """The ascending sites, and their links with told edges."""
     rows = ascending(sites)
     edges = told_edges(told, rows)
     at_most_bound(rows)
+    if is_row(rows):
+        return (rows, linked(rows))
     mesh = bound_mesh(rows, edges)
-    if len(mesh) == 0:
-        return (list(zip(rows, rows[1:])), {})
-    sides = {told_edge(a, b): True for a, b in mesh}
-    joined = sorted([(a, b) for a, b in sides if (a, b) in edges or is_joined(mesh, a, b)])
-    return (joined, corners_before(mesh, joined))
+    flat = [(a, b) for a, b in inner_edges(mesh)
+            if (a, b) not in edges and height_over(a, b, mesh[(a, b)], mesh[(b, a)]) == 0]
+    return (rows, links_of(rows, mesh, flat))
 
 
 def bound_wrong(sites, told, triangles):

@@ -4,8 +4,9 @@ from heapq import heapify, heappop, heappush
 
 from nearcells.checks import ascending, check_sites, is_site
 from nearcells.errors import InvalidBound
-from nearcells.mesh import (can_flip, empty_mesh, flip, inner_edges, is_joined, is_wrong,
-                            joined_edges, mesh_of, put_into, swept, told_edge, told_triangles)
+from nearcells.growing import Growing
+from nearcells.mesh import (can_flip, flip, inner_edges, is_wrong, mesh_of, swept, told_edge,
+                            told_triangles)
 from nearcells.plane import turn
 from nearcells.triangles import triangulation
 
@@ -69,28 +70,10 @@ def lift(site):
 def steps(order):
     """For each site that is put in, the edges that go and the edges that come, ascending."""
     check_sites(order)
-    mesh, joined, told = {}, {}, []
-    for at, site in enumerate(order):
-        touched = put_into(mesh, site)
-        now = [(a, b) for a, b in touched if is_joined(mesh, a, b)]
-        if len(mesh) == 0:
-            # Sites in a row have no triangles that could tell the edges.
-            rows = sorted(order[:at + 1])
-            mesh = empty_mesh(rows)
-            now = joined_edges(mesh, rows)
-            touched = list(joined) + now
-        gone, come = exchange(joined, touched, now)
-        told.append((gone, come))
+    growing, told = Growing(), []
+    for site in order:
+        gone, joined = growing.put(site)
+        ends = [order[at] for at in joined]
+        come = [(other, site) if other < site else (site, other) for other in ends]
+        told.append((sorted([told_edge(order[a], order[b]) for a, b in gone]), sorted(come)))
     return told
-
-
-def exchange(joined, touched, now):
-    """Make those edges joined that are so now; returns what goes and what comes."""
-    kept = {edge: True for edge in now}
-    gone = sorted([edge for edge in touched if edge in joined and edge not in kept])
-    come = sorted([edge for edge in now if edge not in joined])
-    for edge in gone:
-        del joined[edge]
-    for edge in come:
-        joined[edge] = True
-    return (gone, come)

@@ -2,52 +2,41 @@
 
 from itertools import combinations
 
-from nearcells.checks import ascending, check_box, check_member, check_place
+from nearcells.around import area_of, centre_behind, points_about, ring_of
+from nearcells.checks import ascending, check_box, check_member, check_place, check_sites
 from nearcells.errors import InvalidBound
-from nearcells.nearby import nearest_rows, spans_along
+from nearcells.links import edges_of, faces_of, linked
+from nearcells.nearby import lowest_lines, nearest_rows
 from nearcells.plane import circle_through
-from nearcells.polygons import cut, double_area_of_places, side_nearer, sorted_places
-from nearcells.subdivision import Subdivision
+from nearcells.polygons import cut, double_area_of_places, least_place, sorted_by_place
+from nearcells.wholes import fraction
 
 
 def cell(sites, site):
     """The borders (other, begin, end) of a cell, with the cell on the left."""
-    sub = Subdivision(sites)
+    check_sites(sites)
     check_member(site, sites, "site")
-    return borders_of(sub, site)
-
-
-def borders_of(sub, site):
-    """What cell tells, for a subdivision."""
-    others = sub.neighbours(site)
-    borders = [(other, centre_left(sub, other, site), centre_left(sub, site, other)) for other in others]
-    if not is_bounded(borders):
-        return borders
-    least = sorted_places([begin for _, begin, _ in borders])[0]
-    at = [begin for _, begin, _ in borders].index(least)
+    here = (site[0], site[1], 1)
+    ring, is_bounded = ring_of(points_about(sites, here))
+    ends = [centre_behind(part, here) for part in ring]
+    others = [part[0][3] for part in ring]
+    if not is_bounded:
+        borders = list(zip(others, [None] + ends, ends))
+        # Two lines have no order along the cell.
+        return sorted(borders) if len(ends) == 2 and ends[0] is None else borders
+    borders = list(zip(others, ends[-1:] + ends, ends))
+    at = least_place([begin for _, begin, _ in borders])
     return borders[at:] + borders[:at]
-
-
-def centre_left(sub, a, b):
-    """The centre of the face on the left of the edge from a to b, or None."""
-    if (a, b) not in sub.before:
-        return None
-    return circle_through(sub.before[(a, b)], a, b)[0]
-
-
-def is_bounded(borders):
-    """Whether a cell with these borders has no ends in the distance."""
-    return len(borders) > 0 and all([begin is not None for _, begin, _ in borders])
 
 
 def vertices(sites):
     """The tuples (place, square, near) of the places at which cells meet, ascending."""
-    sub = Subdivision(sites)
-    found = {}
-    for face in sub.parts:
+    rows = ascending(sites)
+    found = []
+    for face in faces_of(rows, linked(rows)):
         place, square = circle_through(face[0], face[1], face[2])
-        found[place] = (square, sorted(face))
-    return [(place, *found[place]) for place in sorted_places(list(found))]
+        found.append((place, square, sorted(face)))
+    return sorted_by_place(found)
 
 
 def meeting(sites, place):
@@ -59,45 +48,52 @@ def meeting(sites, place):
 
 def touching(sites):
     """The pairs of sites whose cells have a point in common, ascending."""
-    sub = Subdivision(sites)
-    pairs = {edge: True for edge in sub.lines}
-    for face in sub.parts:
-        corners = sorted(face)
-        for a, b in combinations(corners, 2):
-            pairs[(a, b)] = True
-    return sorted(pairs)
+    rows = ascending(sites)
+    links = linked(rows)
+    pairs = edges_of(rows, links)
+    round_faces = [sorted(face) for face in faces_of(rows, links) if len(face) > 3]
+    if not round_faces:
+        return pairs
+    known = {pair: True for pair in pairs}
+    for face in round_faces:
+        for a, b in combinations(face, 2):
+            known[(a, b)] = True
+    return sorted(known)
 
 
 def double_area(sites, site):
     """The double area of a cell as a fraction, or None for a cell without bounds."""
-    borders = cell(sites, site)
-    if not is_bounded(borders):
+    check_sites(sites)
+    check_member(site, sites, "site")
+    ring, is_bounded = ring_of(points_about(sites, (site[0], site[1], 1)))
+    if not is_bounded:
         return None
-    return double_area_of_places([begin for _, begin, _ in borders])
+    top, bottom = area_of(ring)
+    return fraction(top, 4 * bottom)
 
 
 def boxed(sites, site, box):
     """The double area of the part of a cell within a box (left, low, right, high)."""
-    sub = Subdivision(sites)
+    check_sites(sites)
     check_member(site, sites, "site")
     check_box(box, "box")
     left, low, right, high = box
+    x, y = site
+    # Told from the site: nearer sites first, so that most others cut nothing away.
+    left, low, right, high = left - x, low - y, right - x, high - y
     places = [(left, low, 1), (right, low, 1), (right, high, 1), (left, high, 1)]
-    return double_area_of_places(part_of(sub, site, places))
-
-
-def part_of(sub, site, places):
-    """The part of a convex polygon that is in the cell of a site."""
-    for other in sub.neighbours(site):
-        places = cut(places, side_nearer(site, other))
-    return places
+    for square, u, v, _ in sorted(points_about(sites, (x, y, 1))):
+        places = cut(places, -2 * u, -2 * v, square)
+        if not places:
+            return (0, 1)
+    return double_area_of_places(places)
 
 
 def along(sites, a, b):
     """The sites whose cells are met on the way from one place to another one, in order."""
-    rows = ascending(sites)
+    check_sites(sites)
     check_place(a, "a")
     check_place(b, "b")
     if a == b:
         raise InvalidBound("b")
-    return [site for _, _, near in spans_along(rows, a, b) for site in near]
+    return [site for _, _, near in lowest_lines(sites, a, b) for site in near]

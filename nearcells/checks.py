@@ -62,16 +62,18 @@ def is_place(value):
     if not isinstance(value, tuple) or len(value) != 3:
         return False
     x, y, d = value
-    if not is_short(x) or not is_short(y) or not is_short(d) or d < 1:
+    if not isinstance(x, int) or not isinstance(y, int) or not isinstance(d, int):
         return False
-    return d == 1 or gcd(gcd(x, y), d) == 1
+    if x is True or x is False or y is True or y is False or d is True or d < 1:
+        return False
+    if not -(10 ** 30) < x < 10 ** 30 or not -(10 ** 30) < y < 10 ** 30 or d >= 10 ** 30:
+        return False
+    return d == 1 or gcd(x, y, d) == 1
 
 
 def is_short(value):
     """Whether a value is an integer of at most thirty digits."""
-    if not isinstance(value, int) or value is True or value is False:
-        return False
-    return -(10 ** 30) < value < 10 ** 30
+    return is_integer(value) and -(10 ** 30) < value < 10 ** 30
 
 
 def check_site(value, name):
@@ -118,22 +120,46 @@ def check_square(value, name):
         raise InvalidBound(name)
 
 
+# Most calls begin with this look at a list, so that it is made without further calls.
+def are_sites(value):
+    """Whether a value is a list of 1 to 200 sites, no two alike."""
+    if not isinstance(value, list) or not 0 < len(value) <= MOST_SITES:
+        return False
+    for item in value:
+        if not isinstance(item, tuple) or len(item) != 2:
+            return False
+        x, y = item
+        if not isinstance(x, int) or not isinstance(y, int):
+            return False
+        if x is True or x is False or y is True or y is False:
+            return False
+        if x > 1000000 or x < -1000000 or y > 1000000 or y < -1000000:
+            return False
+    return len(set(value)) == len(value)
+
+
 def check_sites(value):
     """Raise InvalidSites for what is no list of 1 to 200 sites, no two alike."""
+    if not are_sites(value):
+        tell_wrong_site(value)
+
+
+def tell_wrong_site(value):
+    """Raise InvalidSites for a value that is known to be no sites."""
     if not isinstance(value, list):
         raise InvalidSites(-1)
-    if len(value) == 0:
-        raise InvalidSites(0)
     seen = set()
     for at, item in enumerate(value):
         if at == MOST_SITES or not is_site(item) or item in seen:
             raise InvalidSites(at)
         seen.add(item)
+    raise InvalidSites(0)
 
 
 def ascending(sites):
     """A new list of sites in ascending order, once they are known to be sites."""
-    check_sites(sites)
+    if not are_sites(sites):
+        tell_wrong_site(sites)
     return sorted(sites)
 
 

@@ -1,11 +1,11 @@
 """The cells of farthest sites."""
 
 from nearcells.checks import ascending, check_member, check_place, check_two
-from nearcells.faces import corners_before, faces_of
-from nearcells.mesh import mesh_of, told_edge
+from nearcells.links import edges_of, faces_of, linked, links_of, neighbours_of
+from nearcells.mesh import inner_edges, mesh_of, told_edge
 from nearcells.outline import corners_of
 from nearcells.plane import circle_through, height_over, spread_square
-from nearcells.polygons import sorted_places
+from nearcells.polygons import sorted_by_place
 from nearcells.wholes import fraction
 
 
@@ -40,64 +40,60 @@ def far_mesh(corners):
     return mesh_of(triangles)
 
 
-def is_far_joined(mesh, a, b):
-    """Whether a side of such a triangle parts two far cells."""
-    if (a, b) not in mesh or (b, a) not in mesh:
-        return True
-    return height_over(a, b, mesh[(a, b)], mesh[(b, a)]) < 0
-
-
-def far_parts(rows):
-    """The far edges of ascending sites, and for each side of a far face the corner ahead of it."""
-    corners = corners_of(rows)
+def far_links(rows):
+    """The corners of ascending sites, ascending, and the links of their far cells."""
+    around = corners_of(rows)
+    corners = sorted(around)
     if len(corners) < 3:
-        return (list(zip(corners, corners[1:])), {})
-    mesh = far_mesh(corners)
-    sides = {told_edge(a, b): True for a, b in mesh}
-    joined = sorted([(a, b) for a, b in sides if is_far_joined(mesh, a, b)])
-    return (joined, corners_before(mesh, joined))
+        return (corners, linked(corners))
+    mesh = far_mesh(around)
+    flat = [(a, b) for a, b in inner_edges(mesh) if height_over(a, b, mesh[(a, b)], mesh[(b, a)]) == 0]
+    return (corners, links_of(corners, mesh, flat))
 
 
 def far_cell(sites, site):
     """The borders (other, begin, end) of a far cell, with the cell on the left, or None."""
     rows = ascending(sites)
     check_member(site, rows, "site")
-    corners = corners_of(rows)
+    corners, links = far_links(rows)
     if site not in corners:
         return None
-    if len(corners) < 3:
-        return [(other, None, None) for other in corners if other != site]
-    before = far_parts(rows)[1]
-    other, begin = corners[corners.index(site) + 1 - len(corners)], None
-    borders = []
-    while (site, other) in before:
-        end = circle_through(site, other, before[(site, other)])[0]
-        borders.append((other, begin, end))
-        other, begin = before[(site, other)], end
-    return borders + [(other, begin, None)]
+    at = corners.index(site)
+    begin, borders = None, []
+    for other in neighbours_of(links, at):
+        ahead = links[at][other]
+        end = None
+        if ahead >= 0:
+            end = circle_through(site, corners[other], corners[ahead])[0]
+        borders.append((corners[other], begin, end))
+        begin = end
+    return borders
 
 
 def far_vertices(sites):
     """The tuples (place, square, far) of the places at which far cells meet, ascending."""
-    found = {}
+    found = []
     for face in far_faces(sites):
         place, square = circle_through(face[0], face[1], face[2])
-        found[place] = (square, sorted(face))
-    return [(place, *found[place]) for place in sorted_places(list(found))]
+        found.append((place, square, sorted(face)))
+    return sorted_by_place(found)
 
 
 def far_edges(sites):
     """The pairs whose far cells share a border, ascending."""
-    return far_parts(ascending(sites))[0]
+    corners, links = far_links(ascending(sites))
+    return edges_of(corners, links)
 
 
 def far_faces(sites):
     """The polygons of all sites on a circle that has no site outside, ascending."""
-    return faces_of(far_parts(ascending(sites))[1])
+    corners, links = far_links(ascending(sites))
+    return faces_of(corners, links)
 
 
 def is_far_edge(sites, a, b):
     """Whether a pair of sites, in any order, is a far edge."""
     rows = ascending(sites)
     check_two(a, b, rows)
-    return told_edge(a, b) in far_parts(rows)[0]
+    corners, links = far_links(rows)
+    return told_edge(a, b) in edges_of(corners, links)

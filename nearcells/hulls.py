@@ -2,7 +2,6 @@
 
 from nearcells.checks import ascending, check_direction, check_member, check_place, check_site
 from nearcells.outline import border_of, corners_of, double_area_of, side_of_hull, sides_of
-from nearcells.plane import turn
 
 
 def hull(sites):
@@ -50,14 +49,14 @@ def seen_sides(sites, site):
     """The sides of the border that a site sees from outside, in their order."""
     rows = ascending(sites)
     check_site(site, "site")
+    x, y = site
     sides = sides_of(rows)
-    seen = [turn(a, b, site) < 0 for a, b in sides]
-    starts = [at for at in range(len(sides)) if seen[at] and not seen[at - 1]]
-    if len(starts) == 0:
-        return []
-    # What is seen stands together, perhaps beyond the end of the list.
-    around = list(range(starts[0], len(sides))) + list(range(starts[0]))
-    return [sides[at] for at in around if seen[at]]
+    seen = [(bx - ax) * (y - ay) < (by - ay) * (x - ax) for (ax, ay), (bx, by) in sides]
+    told = [side for side, is_seen in zip(sides, seen) if is_seen]
+    if not told or not seen[0] or not seen[-1]:
+        return told
+    # What is seen stands together, and goes on beyond the end of the list.
+    return sides[len(sides) - seen[::-1].index(False):] + sides[:seen.index(False)]
 
 
 def extreme(sites, direction):

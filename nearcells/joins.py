@@ -12,9 +12,15 @@ def leader(leads, one):
 
 def join(leads, a, b):
     """Join two; returns whether they were not joined before."""
-    one, other = leader(leads, a), leader(leads, b)
-    leads[one] = other
-    return one != other
+    # As leader tells it: calls of their own would take much longer.
+    while leads[a] != a:
+        leads[a] = leads[leads[a]]
+        a = leads[a]
+    while leads[b] != b:
+        leads[b] = leads[leads[b]]
+        b = leads[b]
+    leads[a] = b
+    return a != b
 
 
 def alone(rows):

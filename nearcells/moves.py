@@ -1,35 +1,49 @@
 """What changes if a site comes, goes, or moves."""
 
-from nearcells.cells import part_of
-from nearcells.checks import MOST_SITES, check_member, check_place, check_site
+from nearcells.around import (area_of, faces_behind, faces_inside, faces_level, joined_sites, lost_edges,
+                              points_about, ring_of, told_faces)
+from nearcells.checks import MOST_SITES, check_member, check_place, check_site, check_sites
 from nearcells.errors import InvalidBound, LimitExceeded
 from nearcells.mesh import told_edge
-from nearcells.nearby import site_at
-from nearcells.outline import side_of_hull
-from nearcells.plane import circle_through, depth_in_circle, enlarged, place_of
-from nearcells.polygons import double_area_of_places
-from nearcells.subdivision import Subdivision
 from nearcells.wholes import fraction
 
 
 def coming(sites, site):
     """What a further site does to faces and edges: (gone, grown, lost, won)."""
-    sub = Subdivision(sites)
+    check_sites(sites)
     check_site(site, "site")
     if site in sites:
         raise InvalidBound("site")
     if len(sites) == MOST_SITES:
         raise LimitExceeded(MOST_SITES)
-    gone, grown = faces_around(sub, (site[0], site[1], 1))
-    lost, won = changed_edges(sub.lines, Subdivision(sites + [site]).lines)
-    return (gone, grown, lost, won)
+    ring, is_bounded = ring_of(points_about(sites, (site[0], site[1], 1)))
+    gone, grown = faces_inside(ring, is_bounded), faces_level(ring)
+    won = sorted([told_edge(site, other) for other in joined_sites(ring)])
+    return (told_faces(gone), told_faces(grown), lost_edges(ring, gone + grown), won)
 
 
-def faces_around(sub, place):
+def going(sites, site):
+    """What a site leaves: the tuple (gone, come, lost, won) of faces and edges."""
+    check_sites(sites)
+    check_member(site, sites, "site")
+    if len(sites) == 1:
+        raise InvalidBound("site")
+    ring, is_bounded = ring_of(points_about(sites, (site[0], site[1], 1)))
+    # What comes is what the site would break or make grow if it came back.
+    come = faces_inside(ring, is_bounded) + faces_level(ring)
+    lost = sorted([told_edge(site, other) for other in joined_sites(ring)])
+    return (told_faces(faces_behind(ring, site)), told_faces(come), lost, lost_edges(ring, come))
+
+
+def covering(sites, place):
     """The faces whose circle has a place inside, and those whose circle it is on."""
-    depths = [depth_in_circle(face[0], face[1], face[2], place) for face in sub.parts]
-    gone = [list(face) for face, depth in zip(sub.parts, depths) if depth > 0]
-    return (gone, [list(face) for face, depth in zip(sub.parts, depths) if depth == 0])
+    check_sites(sites)
+    check_place(place, "place")
+    x, y, d = place
+    ring, is_bounded = ring_of(points_about(sites, place))
+    if d == 1 and (x, y) in sites:
+        return ([], told_faces(faces_behind(ring, (x, y))))
+    return (told_faces(faces_inside(ring, is_bounded)), told_faces(faces_level(ring)))
 
 
 def changed_edges(before, behind):
@@ -39,81 +53,65 @@ def changed_edges(before, behind):
     return ([edge for edge in before if edge not in new], [edge for edge in behind if edge not in old])
 
 
-def going(sites, site):
-    """What a site leaves: the tuple (gone, come, lost, won) of faces and edges."""
-    sub = Subdivision(sites)
-    check_member(site, sites, "site")
-    if len(sites) == 1:
-        raise InvalidBound("site")
-    rest = Subdivision([other for other in sites if other != site])
-    lost, won = changed_edges(sub.lines, rest.lines)
-    gone = [list(face) for face in sub.parts if site in face]
-    old = {tuple(face): True for face in sub.parts}
-    return (gone, [list(face) for face in rest.parts if tuple(face) not in old], lost, won)
-
-
-def covering(sites, place):
-    """The faces whose circle has a place inside, and those whose circle it is on."""
-    sub = Subdivision(sites)
-    check_place(place, "place")
-    return faces_around(sub, place)
-
-
 def moved(sites, one, other):
     """The edges that are lost, and those that are won, if a site moves."""
-    sub = Subdivision(sites)
+    check_sites(sites)
     check_member(one, sites, "one")
     check_site(other, "other")
     if other != one and other in sites:
         raise InvalidBound("other")
-    behind = Subdivision([other if site == one else site for site in sites])
-    lost, won = changed_edges(sub.lines, renamed(behind.lines, other, one))
-    return (lost, renamed(won, one, other))
+    rest = [site for site in sites if site != one]
+    ends, cut = what_comes(rest, one)
+    others, others_cut = what_comes(rest, other)
+    # Both sets of edges are those of the rest, without what is cut, and with the new ends.
+    gone, come = changed_edges(ends, others)
+    won, lost = changed_edges(cut, others_cut)
+    return (sorted(lost + [told_edge(one, site) for site in gone]),
+            sorted(won + [told_edge(other, site) for site in come]))
 
 
-def renamed(edges, one, other):
-    """The ascending edges with a site other where one was."""
-    told = []
-    for a, b in edges:
-        told.append(told_edge(other if a == one else a, other if b == one else b))
-    return sorted(told)
+def what_comes(rest, site):
+    """The sites that a further site is joined with, and the edges of the others that it cuts."""
+    ring, is_bounded = ring_of(points_about(rest, (site[0], site[1], 1)))
+    return (joined_sites(ring), lost_edges(ring, faces_inside(ring, is_bounded) + faces_level(ring)))
 
 
 def shares(sites, place):
     """From whom a new cell at a place would be taken: the tuples (site, part), or None."""
-    sub = Subdivision(sites)
+    check_sites(sites)
     check_place(place, "place")
-    here = site_at(sub.rows, place)
-    if here is not None:
-        return [(here, (1, 1))]
-    if side_of_hull(sub.rows, place) < 1:
+    x, y, d = place
+    if d == 1 and (x, y) in sites:
+        return [((x, y), (1, 1))]
+    ring, is_bounded = ring_of(points_about(sites, place))
+    if not is_bounded:
         return None
-    sides = outer_sides(faces_around(sub, place)[0])
-    new = [centre_with(place, a, b) for a, b in sides]
-    whole = double_area_of_places(new)
-    told = []
-    for site in sorted([a for a, _ in sides]):
-        # The centre of a face with the place inside of its circle is taken from all its corners.
-        part = double_area_of_places(part_of(sub, site, new))
-        told.append((site, fraction(part[0] * whole[1], part[1] * whole[0])))
-    return told
+    parts = {point[3]: (0, 1) for point, _, _, _ in ring}
+    for face in faces_inside(ring, True):
+        for b, c in zip(face[1:], face[2:]):
+            add_corners(parts, face[0], b, c, 1)
+    # Of the old cells the new ones are left.
+    rim = [point[1:] for point, _, _, _ in ring]
+    for b, c in zip(rim, rim[1:] + rim[:1]):
+        add_corners(parts, (0, 0, None), b, c, -1)
+    top, bottom = area_of(ring)
+    return [(site, fraction(parts[site][0] * bottom, parts[site][1] * top)) for site in sorted(parts)]
 
 
-def outer_sides(faces):
-    """The sides around faces that lie side by side, each one behind the one before it."""
-    following = {}
-    for face in faces:
-        for a, b in zip(face, face[1:] + face[:1]):
-            following[(a, b)] = True
-    ends = {a: b for a, b in following if (b, a) not in following}
-    sides = [min(list(ends.items()))]
-    while sides[-1][1] != sides[0][0]:
-        sides.append((sides[-1][1], ends[sides[-1][1]]))
-    return sides
+def add_corners(parts, a, b, c, way):
+    """Add to the parts of three sites, told as (x, y, site), what is nearest to them in their face.
 
-
-def centre_with(place, a, b):
-    """The centre of the circle through a place and two sites."""
-    d = place[2]
-    x, y, over = circle_through((place[0], place[1]), enlarged(a, d), enlarged(b, d))[0]
-    return place_of(x, y, over * d)
+    The parts are double areas, times 4, as (top, bottom); they are made less if way is -1.
+    """
+    ux, uy = b[0] - a[0], b[1] - a[1]
+    vx, vy = c[0] - a[0], c[1] - a[1]
+    area = ux * vy - uy * vx
+    at_a = ux * vx + uy * vy
+    to_b, to_c = ux * ux + uy * uy, vx * vx + vy * vy
+    at_b, at_c = to_b - at_a, to_c - at_a
+    # The scalar product at a corner is the cotangent times the area: by it the centre is found.
+    by_a, by_b, by_c = (at_b + at_c) * at_a * way, to_c * at_b * way, to_b * at_c * way
+    for (_, _, site), more in ((a, by_b + by_c), (b, by_a + by_c), (c, by_a + by_b)):
+        if site is not None:
+            top, bottom = parts[site]
+            parts[site] = (top * area + more * bottom, bottom * area)

@@ -5,10 +5,8 @@ from nearcells.plane import spread_square
 
 def site_at(rows, place):
     """The site that is at a place, or None."""
-    for site in rows:
-        if (site[0], site[1], 1) == place:
-            return site
-    return None
+    x, y, d = place
+    return (x, y) if d == 1 and (x, y) in rows else None
 
 
 def nearest_rows(rows, place):
@@ -21,49 +19,45 @@ def nearest_rows(rows, place):
 def spans_along(rows, a, b):
     """The parts of the way from place a to place b that have the same nearest sites.
 
-    Returns a list of tuples (top, bottom, sites), sites in the order in which they
-    are passed: the part begins behind the share top / bottom of the way. Parts
-    without a length are left out.
+    Returns a list of tuples (top, bottom, sites), sites ascending: the part begins behind the
+    share top / bottom of the way. Parts without a length are left out.
     """
-    lines = lines_along(rows, a, b)
-    line = min(lines)
-    spans = [(0, 1, lines[line])]
-    while True:
-        top, bottom, line = next_line(lines, line)
-        if top >= bottom:
-            return spans
-        spans.append((top, bottom, lines[line]))
+    top, bottom, spans = 0, 1, []
+    before = None
+    for begin, end, near in lowest_lines(rows, a, b):
+        if before is not None:
+            top = begin - before[0]
+            bottom = top + before[1] - end
+        spans.append((top, bottom, near))
+        before = (begin, end)
+    return spans
 
 
-def lines_along(rows, a, b):
-    """For each way in which a distance changes along a way, the sites with this distance.
+def lowest_lines(rows, a, b):
+    """The distances at both ends of the way, and the sites, for each part of it, in their order.
 
-    The distance is a number at the begin and what is added to it until the end:
-    the squared one, less what it has in common for all sites, times a number.
+    The distances are told as the squared ones, less what these have in common for all sites,
+    times a number. So they change evenly along the way: those that come below others later are
+    greater at the begin, and less at the end.
     """
     ax, ay, ad = a
     bx, by, bd = b
-    lines = {}
-    for site in rows:
-        x, y = site
-        begin = ad * bd * (x * x + y * y) - 2 * bd * (ax * x + ay * y)
-        more = 2 * bd * (ax * x + ay * y) - 2 * ad * (bx * x + by * y)
-        lines.setdefault((begin, more), []).append(site)
-    return lines
-
-
-def next_line(lines, line):
-    """Where on the way another line comes below this one, and the line that does so first.
-
-    Of several at one point it is the lowest one behind it. The share is told as
-    top and bottom; it is 1 if there is none.
-    """
-    top, bottom, least = 1, 1, line
-    for other in lines:
-        # Only what falls faster can come below.
-        if other[1] < line[1]:
-            rise, fall = other[0] - line[0], line[1] - other[1]
-            room = rise * bottom - top * fall
-            if room < 0 or (room == 0 and other[1] < least[1]):
-                top, bottom, least = rise, fall, other
-    return (top, bottom, least)
+    k, p, q = ad * bd, -2 * bd * ax, -2 * bd * ay
+    u, v = -2 * ad * bx - p, -2 * ad * by - q
+    lines = sorted([(begin, begin + u * x + v * y, site) for site in rows for x, y in [site]
+                    for begin in [x * (k * x + p) + y * (k * y + q)]])
+    chain, least = [], lines[0][1] + 1
+    for begin, end, site in lines:
+        if end < least:
+            while len(chain) > 1:
+                first, first_end, _ = chain[-2]
+                last, last_end, _ = chain[-1]
+                # The last one is of use if it comes below the one before it ahead of this one.
+                if (last - first) * (last_end - end) < (begin - last) * (first_end - last_end):
+                    break
+                chain.pop()
+            chain.append((begin, end, [site]))
+            least = end
+        elif end == least and begin == chain[-1][0]:
+            chain[-1][2].append(site)
+    return chain

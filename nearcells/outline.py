@@ -9,31 +9,51 @@ def is_row(rows):
     return all([turn(rows[0], rows[-1], site) == 0 for site in rows])
 
 
-def chain_of(rows, least):
-    """The way along the border from the first site to the last one, all others on its left.
+def chains_of(rows, least):
+    """Both ways along the border from the first site to the last one: the lower, and the upper one.
 
-    No turn is less than least: with 0 sites between two others stay, with 1 they go.
+    The lower one has all other sites on its left, the upper one on its right. No turn to this
+    side is less than least: with 0 sites between two others stay, with 1 they go.
     """
-    chain = []
+    low, high = [], []
+    px, py = rows[0]
+    ux, uy = rows[-1][0] - px, rows[-1][1] - py
     for site in rows:
-        while len(chain) > 1 and turn(chain[-2], chain[-1], site) < least:
-            chain.pop()
-        chain.append(site)
-    return chain
+        x, y = site
+        # Each one lies on this or on that side of the line from the first to the last, or on it.
+        area = ux * (y - py) - uy * (x - px)
+        if area <= 0:
+            while len(low) > 1:
+                ax, ay = low[-2]
+                bx, by = low[-1]
+                if (bx - ax) * (y - ay) - (by - ay) * (x - ax) >= least:
+                    break
+                low.pop()
+            low.append(site)
+        if area >= 0:
+            while len(high) > 1:
+                ax, ay = high[-2]
+                bx, by = high[-1]
+                if (by - ay) * (x - ax) - (bx - ax) * (y - ay) >= least:
+                    break
+                high.pop()
+            high.append(site)
+    return (low, high)
 
 
 def border_of(rows):
     """All sites on the border of the hull, turning left from the least one."""
-    if is_row(rows):
-        return list(rows)
-    return chain_of(rows, 0)[:-1] + chain_of(rows[::-1], 0)[:-1]
+    low, high = chains_of(rows, 0)
+    # None but the ends are on both ways, unless all sites are in a row.
+    if len(low) == len(high) == len(rows):
+        return low
+    return low + high[-2:0:-1]
 
 
 def corners_of(rows):
     """The corners of the hull, turning left from the least one."""
-    if len(rows) == 1:
-        return list(rows)
-    return chain_of(rows, 1)[:-1] + chain_of(rows[::-1], 1)[:-1]
+    low, high = chains_of(rows, 1)
+    return low + high[-2:0:-1]
 
 
 def sides_of(rows):
@@ -41,10 +61,9 @@ def sides_of(rows):
 
     For sites in a row they go from each one to the next one, and back again.
     """
-    border = border_of(rows)
-    if len(border) > 2 and not is_row(rows):
-        return list(zip(border, border[1:] + border[:1]))
-    return list(zip(border, border[1:])) + list(zip(border[::-1], border[::-1][1:]))
+    low, high = chains_of(rows, 0)
+    around = low + high[-2::-1]
+    return list(zip(around, around[1:]))
 
 
 def double_area_of(corners):

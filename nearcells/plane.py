@@ -30,16 +30,9 @@ def is_on_way(a, b, place):
     return (a[0] * d, a[1] * d) <= (x, y) <= (b[0] * d, b[1] * d)
 
 
-def lifted_from(a, b):
-    """The way from a to b, and the square of its length as the height."""
-    x = b[0] - a[0]
-    y = b[1] - a[1]
-    return (x, y, x * x + y * y)
-
-
 def place_of(x, y, d):
     """The place (x / d, y / d) in lowest terms; d is not 0."""
-    common = gcd(gcd(x, y), d)
+    common = gcd(x, y, d)
     if d < 0:
         common = -common
     return (x // common, y // common, d // common)
@@ -47,13 +40,16 @@ def place_of(x, y, d):
 
 def circle_through(a, b, c):
     """The centre and the squared radius of the circle through a triangle."""
-    bx, by, bz = lifted_from(a, b)
-    cx, cy, cz = lifted_from(a, c)
-    double = 2 * turn(a, b, c)
-    x = bz * cy - cz * by
-    y = cz * bx - bz * cx
-    centre = place_of(a[0] * double + x, a[1] * double + y, double)
-    return (centre, fraction(x * x + y * y, double * double))
+    ax, ay = a
+    bx, by = b[0] - ax, b[1] - ay
+    cx, cy = c[0] - ax, c[1] - ay
+    bz, cz = bx * bx + by * by, cx * cx + cy * cy
+    x, y, d = bz * cy - cz * by, cz * bx - bz * cx, 2 * (bx * cy - by * cx)
+    common = gcd(x, y, d)
+    if d < 0:
+        common = -common
+    x, y, d = x // common, y // common, d // common
+    return ((ax * d + x, ay * d + y, d), fraction(x * x + y * y, d * d))
 
 
 def height_over(a, b, c, d):

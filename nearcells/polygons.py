@@ -1,13 +1,13 @@
 """Places in order, and convex polygons whose corners are places."""
 
 from nearcells.plane import place_of
-from nearcells.wholes import fraction, total
+from nearcells.wholes import fraction
 
 
 def order_scale(places):
     """A number for place_key that puts these places in order."""
     # Unlike fractions with denominators up to d differ by at least 1 / (d * d).
-    return max([d for _, _, d in places]) ** 2
+    return max([d for _, _, d in places], default=1) ** 2
 
 
 def place_key(place, scale):
@@ -16,35 +16,35 @@ def place_key(place, scale):
     return (x * scale // d, y * scale // d)
 
 
-def sorted_places(places):
-    """Places in ascending order."""
-    if len(places) == 0:
-        return []
+def sorted_by_place(rows):
+    """Tuples that begin with a place, unlike ones, in the order of these."""
+    scale = order_scale([row[0] for row in rows])
+    ranked = sorted([(place_key(row[0], scale), at) for at, row in enumerate(rows)])
+    return [rows[at] for _, at in ranked]
+
+
+def least_place(places):
+    """The number of the least one of some places."""
     scale = order_scale(places)
-    return sorted(places, key=lambda place: place_key(place, scale))
+    keys = [place_key(place, scale) for place in places]
+    return keys.index(min(keys))
 
 
-def side_nearer(site, other):
-    """The half-plane of what is at least as near to one site as to another one.
+def cut(places, u, v, w):
+    """The part of a convex polygon, told by its corners turning left, in a half-plane.
 
-    It is told as (u, v, w): a place (x, y, d) is in it for u * x + v * y + w * d from 0 on.
+    A place (x, y, d) is in it for u * x + v * y + w * d from 0 on.
     """
-    ax, ay = site
-    bx, by = other
-    return (2 * (ax - bx), 2 * (ay - by), bx * bx + by * by - ax * ax - ay * ay)
-
-
-def cut(places, half):
-    """The part of a convex polygon, told by its corners turning left, in a half-plane."""
-    u, v, w = half
     depths = [u * x + v * y + w * d for x, y, d in places]
+    if min(depths) >= 0:
+        return places
     kept = []
-    for at, place in enumerate(places):
-        before, now = depths[at - 1], depths[at]
+    for at, now in enumerate(depths):
+        before = depths[at - 1]
         if (before < 0 < now) or (now < 0 < before):
-            kept.append(cut_side(places[at - 1], place, before, now))
+            kept.append(cut_side(places[at - 1], places[at], before, now))
         if now >= 0:
-            kept.append(place)
+            kept.append(places[at])
     return kept
 
 
@@ -56,8 +56,9 @@ def cut_side(a, b, at_a, at_b):
 
 def double_area_of_places(places):
     """The double area of a polygon that turns left, as a fraction."""
-    parts = []
+    top, bottom = 0, 1
     for at, (x, y, d) in enumerate(places):
-        before = places[at - 1]
-        parts.append(fraction(before[0] * y - x * before[1], before[2] * d))
-    return total(parts)
+        px, py, pd = places[at - 1]
+        # As long as denominators are small there is no need for the lowest terms.
+        top, bottom = top * d * pd + (px * y - x * py) * bottom, bottom * d * pd
+    return fraction(top, bottom)

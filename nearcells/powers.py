@@ -4,7 +4,7 @@ from nearcells.checks import check_place
 from nearcells.lower import is_touching, lifted, lower_chain, lower_faces, rise_over, seen_spots, spots_of
 from nearcells.mesh import told_edge
 from nearcells.plane import place_of, spread_square, turn
-from nearcells.polygons import sorted_places
+from nearcells.polygons import sorted_by_place
 from nearcells.weighted import ascending_weighted, check_weighted, check_weighted_member
 from nearcells.wholes import fraction
 
@@ -68,12 +68,12 @@ def power_faces(sites):
 def power_vertices(sites):
     """The tuples (place, least power, near) of the places at which cells of a face meet."""
     rows = ascending_weighted(sites)
-    found = {}
+    found = []
     for _, on in lower_faces(lifted(rows)):
         place = place_below(on)
         near = least_rows(rows, place)
-        found[place] = (fraction(spread_power(place, near[0]), place[2] ** 2), near)
-    return [(place, *found[place]) for place in sorted_places(list(found))]
+        found.append((place, fraction(spread_power(place, near[0]), place[2] ** 2), near))
+    return sorted_by_place(found)
 
 
 def place_below(on):

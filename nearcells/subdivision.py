@@ -1,28 +1,20 @@
 """The subdivision that joins sites whose cells have a border."""
 
-from nearcells.checks import ascending, check_two, is_site
+from nearcells.checks import ascending, check_member, check_sites, check_two, is_site
 from nearcells.errors import InvalidBound, InvalidTriangles
-from nearcells.faces import corners_before, faces_of, fans_of
-from nearcells.mesh import empty_mesh, inner_edges, is_wrong, joined_edges
-from nearcells.plane import circle_through, on_stretch, turn
+from nearcells.links import edges_of, faces_of, fans_of, linked, neighbours_of
+from nearcells.mesh import inner_edges, is_wrong
+from nearcells.plane import circle_through
 from nearcells.triangles import triangulation
-from nearcells.wholes import fraction, is_less
+from nearcells.wholes import fraction
 
 
 class Subdivision:
-    """The edges and the faces of sites.
-
-    rows are the sites, lines the edges and parts the faces, all ascending.
-    before has, for an edge from a to b with a face on its left, the tuple (a, b)
-    with the corner of the face ahead of a: the next neighbour of a, turning left.
-    """
+    """The edges and the faces of sites: rows are the ascending sites, links their links."""
 
     def __init__(self, sites):
         self.rows = ascending(sites)
-        mesh = empty_mesh(self.rows)
-        self.lines = joined_edges(mesh, self.rows)
-        self.before = corners_before(mesh, self.lines)
-        self.parts = faces_of(self.before)
+        self.links = linked(self.rows)
 
     def __eq__(self, other):
         return isinstance(other, Subdivision) and self.rows == other.rows
@@ -33,94 +25,98 @@ class Subdivision:
 
     def edges(self):
         """The ascending list of the edges (a, b), a less than b."""
-        return list(self.lines)
+        return edges_of(self.rows, self.links)
 
     def faces(self):
         """The ascending list of the faces, each from its least corner, turning left."""
-        return [list(face) for face in self.parts]
+        return faces_of(self.rows, self.links)
 
     def triangles(self):
         """The ascending list of the triangles that the faces are cut into."""
-        return sorted([triangle for face in self.parts for triangle in fans_of(face)])
+        return sorted([triangle for face in self.faces() for triangle in fans_of(face)])
 
     def neighbours(self, site):
         """The sites that are joined with one, turning left."""
-        if not is_site(site) or site not in self.rows:
-            raise InvalidBound("site")
-        joined = [b if a == site else a for a, b in self.lines if site in (a, b)]
-        if len(self.parts) == 0:
-            return sorted(joined)
-        # On the border of the hull the first one is the next one on it: no face is on its right.
-        ends = [other for other in joined if (other, site) not in self.before]
-        told = [min(joined) if len(ends) == 0 else ends[0]]
-        while len(told) < len(joined):
-            told.append(self.before[(site, told[-1])])
-        return told
+        check_member(site, self.rows, "site")
+        return [self.rows[at] for at in neighbours_of(self.links, self.rows.index(site))]
 
     def face_circle(self, face):
         """The centre and the squared radius of the circle of a face."""
         if not isinstance(face, list) or not all([is_site(corner) for corner in face]):
             raise InvalidBound("face")
-        if face not in self.parts:
+        if face not in self.faces():
             raise InvalidBound("face")
         return circle_through(face[0], face[1], face[2])
 
 
 def centres(sites, a, b):
     """The bounds (low, high) of the centres of circles through a and b without a site inside."""
-    rows = ascending(sites)
-    check_two(a, b, rows)
-    if between(rows, a, b) is not None:
+    check_sites(sites)
+    check_two(a, b, sites)
+    between, left, right = beside(sites, a, b)
+    if between is not None:
         return None
-    low, high = bounds(rows, a, b)
-    return (None if low is None else fraction(*low), None if high is None else fraction(*high))
+    low, high = lowest(right), lowest(left)
+    low = None if low is None else fraction(-low[0], 2 * low[1])
+    return (low, None if high is None else fraction(high[0], 2 * high[1]))
 
 
-def between(rows, a, b):
-    """The least site on the stretch from a to b, besides these, or None."""
-    for site in rows:
-        if site != a and site != b and on_stretch(a, b, site):
-            return site
-    return None
+def beside(sites, a, b):
+    """The least site between a and b, or None, and what is on the left and on the right of the way.
 
-
-def bounds(rows, a, b):
-    """What centres tells if no site is between a and b, as tuples that may have a common divisor."""
-    low, high = None, None
-    for site in rows:
-        area = turn(a, b, site)
+    These are lists of tuples (top, area, site), in the order of the sites: with (top, 2 * area)
+    the centre of the circle through all three, told from the middle of a and b to their side.
+    """
+    ax, ay = a
+    bx, by = b
+    ux, uy = bx - ax, by - ay
+    start = ux * ay - uy * ax
+    between, left, right = None, [], []
+    for site in sites:
+        x, y = site
+        area = ux * y - uy * x - start
+        # The scalar product of the ways to a and b is below 0 between them.
+        top = (x - ax) * (x - bx) + (y - ay) * (y - by)
         if area > 0:
-            share = centre_share(a, b, site)
-            high = share if high is None or is_less(share, high) else high
+            left.append((top, area, site))
         elif area < 0:
-            share = centre_share(a, b, site)
-            low = share if low is None or is_less(low, share) else low
-    return (low, high)
+            right.append((top, -area, site))
+        elif top < 0 and (between is None or site < between):
+            between = site
+    return (between, left, right)
 
 
-def centre_share(a, b, site):
-    """Where the centre of the circle through three sites is: t as a numerator and a denominator."""
-    scalar = (site[0] - a[0]) * (site[0] - b[0]) + (site[1] - a[1]) * (site[1] - b[1])
-    double = 2 * turn(a, b, site)
-    return (scalar, double) if double > 0 else (-scalar, -double)
+def lowest(shares):
+    """The first one of the tuples (top, area, site) with the least top / area, or None."""
+    least = None
+    for share in shares:
+        if least is None or share[0] * least[1] < least[0] * share[1]:
+            least = share
+    return least
 
 
 def avoided(sites, a, b):
     """The first paper against an edge between a and b, or None if there is one."""
     rows = ascending(sites)
     check_two(a, b, rows)
-    site = between(rows, a, b)
-    if site is not None:
-        return (site,)
-    low, high = bounds(rows, a, b)
-    if low is None or high is None or is_less(low, high):
+    between, left, right = beside(rows, a, b)
+    if between is not None:
+        return (between,)
+    high = lowest(left)
+    if high is None:
         return None
-    # Circles with a site on the right inside have their centres below its own,
-    # and those with one on the left inside have them above.
-    right = [s for s in rows if turn(a, b, s) < 0 and not is_less(centre_share(a, b, s), high)]
-    bound = centre_share(a, b, right[0])
-    left = [s for s in rows if turn(a, b, s) > 0 and not is_less(bound, centre_share(a, b, s))]
-    return (right[0], left[0])
+    # Two sites on both sides leave no room for a centre if their tops make at most 0.
+    top, area, _ = high
+    for share in right:
+        if share[0] * area + top * share[1] <= 0:
+            return (share[2], first_against(left, share))
+    return None
+
+
+def first_against(shares, share):
+    """The first site that leaves no room for a centre together with one on the other side."""
+    top, area, _ = share
+    return [site for one, other, site in shares if one * area + top * other <= 0][0]
 
 
 def is_triangulation(sites, triangles):

@@ -2,7 +2,8 @@
 
 from nearcells.checks import is_site
 from nearcells.errors import InvalidBound
-from nearcells.mesh import can_flip, empty_mesh, flip, inner_edges, is_wrong, told_edge
+from nearcells.links import empty_mesh
+from nearcells.mesh import can_flip, flip, inner_edges, is_wrong, told_edge
 from nearcells.plane import on_stretch, turn
 
 MOST_TOLD = 200

@@ -2,8 +2,8 @@
 
 from nearcells.checks import ascending
 from nearcells.errors import LimitExceeded
-from nearcells.mesh import (can_flip, empty_mesh, inner_edges, is_wrong, mesh_of, told_edge,
-                            told_triangles)
+from nearcells.links import empty_mesh
+from nearcells.mesh import can_flip, inner_edges, told_triangles
 from nearcells.outline import is_row
 from nearcells.pieces import Pieces, reached_ways
 from nearcells.plane import height_over, on_stretch, turn

@@ -7,7 +7,7 @@ from itertools import combinations
 
 from nearcells.cells import along, boxed, cell, double_area, meeting, touching, vertices
 from nearcells.hulls import border
-from nearcells.polygons import sorted_places
+from nearcells.polygons import least_place, sorted_by_place
 from nearcells.subdivision import Subdivision
 from tests import exact, samples, slow, slow_cells
 
@@ -105,9 +105,11 @@ class Order(unittest.TestCase):
             spots = {(Fraction(chance.randint(-most, most), chance.randint(1, most)),
                       Fraction(chance.randint(-3, 3), chance.randint(1, 4))) for _ in range(300)}
             spots |= {(x, y + 1) for x, y in spots}
-            places = [exact.place_of(*spot) for spot in spots]
-            self.assertEqual(sorted_places(places), [exact.place_of(*spot) for spot in sorted(spots)])
-        self.assertEqual(sorted_places([]), [])
+            rows = [(exact.place_of(*spot), str(spot)) for spot in spots]
+            right = [(exact.place_of(*spot), str(spot)) for spot in sorted(spots)]
+            self.assertEqual(sorted_by_place(rows), right)
+            self.assertEqual(rows[least_place([place for place, _ in rows])], right[0])
+        self.assertEqual(sorted_by_place([]), [])
 
 
 class Meeting(unittest.TestCase):
