@@ -3,7 +3,7 @@
 from nearcells.checks import ascending, check_member, check_two
 from nearcells.errors import InvalidTriangles, LimitExceeded
 from nearcells.links import edges_of, faces_of, fans_of, linked, links_of
-from nearcells.mesh import inner_edges, is_wrong
+from nearcells.mesh import inner_edges, wrong_in
 from nearcells.outline import is_row
 from nearcells.plane import height_over, turn
 from nearcells.told import bound_mesh, crossing_edges, is_crossed, is_split, told_edges
@@ -79,8 +79,7 @@ def bound_wrong(sites, told, triangles):
     if len(mesh) > 0 and not all([(a, b) in mesh or (b, a) in mesh for a, b in edges]):
         raise InvalidTriangles(len(triangles))
     at_most_bound(rows)
-    wrong = [(a, b) for a, b in inner_edges(mesh) if (a, b) not in edges and is_wrong(mesh, a, b)]
-    return min(wrong, default=None)
+    return min([edge for edge in wrong_in(mesh) if edge not in edges], default=None)
 
 
 def crossed(sites, triangles, a, b):

@@ -5,8 +5,8 @@ from heapq import heapify, heappop, heappush
 from nearcells.checks import ascending, check_sites, is_site
 from nearcells.errors import InvalidBound
 from nearcells.growing import Growing
-from nearcells.mesh import (can_flip, flip, inner_edges, is_wrong, mesh_of, swept, told_edge,
-                            told_triangles)
+from nearcells.mesh import (can_flip, flip, is_wrong, mesh_of, swept, told_edge, told_triangles,
+                            wrong_in)
 from nearcells.plane import turn
 from nearcells.triangles import triangulation
 
@@ -14,7 +14,7 @@ from nearcells.triangles import triangulation
 def wrong_edges(sites, triangles):
     """The edges at which one circle has the third corner of the other side inside, ascending."""
     mesh = triangulation(ascending(sites), triangles)
-    return sorted([(a, b) for a, b in inner_edges(mesh) if is_wrong(mesh, a, b)])
+    return sorted(wrong_in(mesh))
 
 
 def flipped(sites, triangles, edge):
@@ -37,7 +37,7 @@ def check_flip(mesh, edge):
 def straightened(sites, triangles):
     """The edges that are flipped, the least wrong one first, and the told triangles at the end."""
     mesh = triangulation(ascending(sites), triangles)
-    ahead = [(a, b) for a, b in inner_edges(mesh) if is_wrong(mesh, a, b)]
+    ahead = wrong_in(mesh)
     heapify(ahead)
     gone = []
     while len(ahead) > 0:

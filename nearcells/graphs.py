@@ -104,9 +104,10 @@ def gabriel_lines(rows):
                 bx, by = rows[b]
                 # The corner of a face sees its side at an acute angle; what has no face does.
                 for c in (of_a[b], links[b][a]):
-                    x, y = rows[c]
-                    if c >= 0 and (ax - x) * (bx - x) + (ay - y) * (by - y) <= 0:
-                        break
+                    if c >= 0:
+                        x, y = rows[c]
+                        if (ax - x) * (bx - x) + (ay - y) * (by - y) <= 0:
+                            break
                 else:
                     told.append((rows[a], rows[b]))
     return told

@@ -26,15 +26,20 @@ class Growing:
         self.corners.append({})
         if not self.after:
             return self.put_beside_row(at)
-        side = self.side_before(site)
-        if side[1] in self.corners[side[0]]:
-            gone, sides = self.open_triangle(at, *side)
+        a, b, on = self.side_before(site)
+        if b not in self.corners[a]:
+            gone, sides = [], self.open_border(at, b, a)
+        elif on is None:
+            c = self.corners[a][b]
+            gone, sides = [], [(a, b), (b, c), (c, a)]
         else:
-            gone, sides = [], self.open_border(at, side[1], side[0])
+            gone, sides = self.open_side(at, *on)
         self.add_triangles(at, sides)
         gone.extend(settle(self.rows, self.corners, self.flat, at, sides))
         joined = list(self.corners[at])
-        return (gone, joined + [self.ahead[at]] if at in self.ahead else joined)
+        if at in self.ahead:
+            joined.append(self.ahead[at])
+        return (gone, joined)
 
     def put_beside_row(self, at):
         """What put does for a further site as long as those before it are in a row."""
@@ -58,39 +63,42 @@ class Growing:
             corners[a][b], corners[b][at], corners[at][a] = at, a, b
 
     def side_before(self, site):
-        """A side (a, b) of the triangle in which a site is, or of the border, with it on the left.
+        """The tuple (a, b, on) of a side (a, b) of the triangle in which a site is, or of the border.
 
-        One of the border has no triangle on its left, and does not go through the site.
+        The site is on its left. A side of the border has no triangle there, and the site is not
+        on its line. on is None, or the side of the triangle on which the site is.
         """
         rows, corners = self.rows, self.corners
         a = len(rows) - 2
         b = list(corners[a])[0]
-        if turn(rows[a], rows[b], site) < 0:
+        area = turn(rows[a], rows[b], site)
+        on = (a, b) if area == 0 else None
+        if area < 0:
             a, b = b, a
         while b in corners[a]:
             c = corners[a][b]
-            if turn(rows[b], rows[c], site) < 0:
-                a, b = c, b
-            elif turn(rows[c], rows[a], site) < 0:
-                b = c
+            area = turn(rows[b], rows[c], site)
+            other = turn(rows[c], rows[a], site)
+            if area < 0:
+                a, b, on = c, b, None
+            elif other < 0:
+                b, on = c, None
+            elif area == 0:
+                return (a, b, (b, c))
             else:
-                return (a, b)
-        return (a, b)
+                return (a, b, (c, a) if other == 0 else on)
+        return (a, b, None)
 
-    def open_triangle(self, at, a, b):
-        """Take away the side on which a site of a triangle is; returns it, and what is around it."""
-        c = self.corners[a][b]
-        sides = [(a, b), (b, c), (c, a)]
-        on = [(p, q) for p, q in sides if turn(self.rows[p], self.rows[q], self.rows[at]) == 0]
-        for p, q in on:
-            sides.remove((p, q))
-            del self.corners[p][q]
-            if p in self.corners[q]:
-                d = self.corners[q].pop(p)
-                sides.extend([(p, d), (d, q)])
-            else:
-                self.put_on_border(at, p, q)
-        return ([(p, q) for p, q in on if not take_out(self.flat, p, q)], sides)
+    def open_side(self, at, a, b):
+        """Take away the side of a triangle on which a site is; returns it, and what is around it."""
+        c = self.corners[a].pop(b)
+        sides = [(b, c), (c, a)]
+        if a in self.corners[b]:
+            d = self.corners[b].pop(a)
+            sides.extend([(a, d), (d, b)])
+        else:
+            self.put_on_border(at, a, b)
+        return ([] if take_out(self.flat, a, b) else [(a, b)], sides)
 
     def put_on_border(self, at, a, b):
         """Put a site on the border, turning left from a to b."""

@@ -50,6 +50,25 @@ def is_wrong(mesh, a, b):
     return height_over(a, b, mesh[(a, b)], mesh[(b, a)]) < 0
 
 
+def wrong_in(mesh):
+    """The edges (a, b), a less than b, that are wrong."""
+    wrong = []
+    for (a, b), (x, y) in mesh.items():
+        if a < b and (b, a) in mesh:
+            ax, ay = a
+            bx, by = b
+            u, v = mesh[(b, a)]
+            # By the angles at both third corners: are they more than two right ones?
+            one = (ax - x) * (bx - x) + (ay - y) * (by - y)
+            other = (ax - u) * (bx - u) + (ay - v) * (by - v)
+            if one < 0 or other < 0:
+                turn_one = (ax - x) * (by - y) - (ay - y) * (bx - x)
+                turn_other = (bx - u) * (ay - v) - (by - v) * (ax - u)
+                if one * turn_other + other * turn_one < 0:
+                    wrong.append((a, b))
+    return wrong
+
+
 def can_flip(mesh, a, b):
     """Whether the two triangles beside an inner edge make a convex polygon of four corners."""
     c, d = mesh[(a, b)], mesh[(b, a)]

@@ -2,7 +2,7 @@
 
 from math import gcd
 
-from nearcells.wholes import fraction, sign
+from nearcells.wholes import fraction
 
 
 def turn(a, b, c):
@@ -71,14 +71,3 @@ def spread_square(place, site):
     """The squared distance of a place (x, y, d) and a site, times d * d."""
     x, y, d = place
     return (x - d * site[0]) ** 2 + (y - d * site[1]) ** 2
-
-
-def enlarged(site, many):
-    """The site that is many times as far from (0, 0)."""
-    return (site[0] * many, site[1] * many)
-
-
-def depth_in_circle(a, b, c, place):
-    """1, 0 or -1 for a place inside of, on, or outside of the circle of a triangle turning left."""
-    x, y, d = place
-    return -sign(height_over(enlarged(a, d), enlarged(b, d), enlarged(c, d), (x, y)))

@@ -3,18 +3,24 @@
 from nearcells.checks import ascending, check_member, check_sites, check_two, is_site
 from nearcells.errors import InvalidBound, InvalidTriangles
 from nearcells.links import edges_of, faces_of, fans_of, linked, neighbours_of
-from nearcells.mesh import inner_edges, is_wrong
+from nearcells.mesh import wrong_in
 from nearcells.plane import circle_through
 from nearcells.triangles import triangulation
 from nearcells.wholes import fraction
 
 
 class Subdivision:
-    """The edges and the faces of sites: rows are the ascending sites, links their links."""
+    """The edges and the faces of sites.
+
+    rows are the ascending sites and links their links. lines are the edges and parts the faces,
+    or None as long as nobody has asked for them.
+    """
 
     def __init__(self, sites):
         self.rows = ascending(sites)
         self.links = linked(self.rows)
+        self.lines = None
+        self.parts = None
 
     def __eq__(self, other):
         return isinstance(other, Subdivision) and self.rows == other.rows
@@ -25,15 +31,23 @@ class Subdivision:
 
     def edges(self):
         """The ascending list of the edges (a, b), a less than b."""
-        return edges_of(self.rows, self.links)
+        if self.lines is None:
+            self.lines = edges_of(self.rows, self.links)
+        return list(self.lines)
 
     def faces(self):
         """The ascending list of the faces, each from its least corner, turning left."""
-        return faces_of(self.rows, self.links)
+        return [list(face) for face in self.held_faces()]
+
+    def held_faces(self):
+        """What faces tells, as it is kept here."""
+        if self.parts is None:
+            self.parts = faces_of(self.rows, self.links)
+        return self.parts
 
     def triangles(self):
         """The ascending list of the triangles that the faces are cut into."""
-        return sorted([triangle for face in self.faces() for triangle in fans_of(face)])
+        return sorted([triangle for face in self.held_faces() for triangle in fans_of(face)])
 
     def neighbours(self, site):
         """The sites that are joined with one, turning left."""
@@ -44,7 +58,7 @@ class Subdivision:
         """The centre and the squared radius of the circle of a face."""
         if not isinstance(face, list) or not all([is_site(corner) for corner in face]):
             raise InvalidBound("face")
-        if face not in self.faces():
+        if face not in self.held_faces():
             raise InvalidBound("face")
         return circle_through(face[0], face[1], face[2])
 
@@ -132,4 +146,4 @@ def is_triangulation(sites, triangles):
 def first_wrong(sites, triangles):
     """The least edge at which one circle has the third corner of the other side inside, or None."""
     mesh = triangulation(ascending(sites), triangles)
-    return min([(a, b) for a, b in inner_edges(mesh) if is_wrong(mesh, a, b)], default=None)
+    return min(wrong_in(mesh), default=None)

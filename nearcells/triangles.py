@@ -1,40 +1,32 @@
 """Triangles that a caller passes: whether they are a triangulation of sites."""
 
-from nearcells.checks import is_site
+from nearcells.checks import turn_of_sites
 from nearcells.errors import InvalidTriangles
-from nearcells.mesh import mesh_of
-from nearcells.outline import is_row, sides_of
-from nearcells.plane import turn
+from nearcells.outline import chains_of
 
 
 def triangulation(rows, value):
-    """The mesh of a value that is a triangulation of ascending sites.
+    """The mesh of a value that is a triangulation of ascending sites, as mesh.mesh_of makes it.
 
     Raises InvalidTriangles for every other value.
     """
     if not isinstance(value, list):
         raise InvalidTriangles(-1)
-    known = {site: True for site in rows}
-    turned = []
+    known = set(rows)
+    mesh = {}
     for at, item in enumerate(value):
-        if not is_triangle(item, known):
+        if not isinstance(item, tuple) or len(item) != 3:
             raise InvalidTriangles(at)
         a, b, c = item
-        turned.append(item if turn(a, b, c) > 0 else (a, c, b))
-    mesh = mesh_of(turned)
-    if len(mesh) != 3 * len(turned) or not fills(rows, mesh):
+        area = turn_of_sites(a, b, c)
+        if area is None or area == 0 or a not in known or b not in known or c not in known:
+            raise InvalidTriangles(at)
+        if area < 0:
+            b, c = c, b
+        mesh[(a, b)], mesh[(b, c)], mesh[(c, a)] = c, a, b
+    if len(mesh) != 3 * len(value) or not fills(rows, mesh):
         raise InvalidTriangles(len(value))
     return mesh
-
-
-def is_triangle(item, known):
-    """Whether a value is a tuple of three known sites that are not in a row."""
-    if not isinstance(item, tuple) or len(item) != 3:
-        return False
-    a, b, c = item
-    if not is_site(a) or not is_site(b) or not is_site(c):
-        return False
-    return a in known and b in known and c in known and turn(a, b, c) != 0
 
 
 def fills(rows, mesh):
@@ -43,9 +35,11 @@ def fills(rows, mesh):
     They do so without overlaps exactly if none but the sides of the border have
     a triangle on one side alone: then what lies within is covered once.
     """
-    if is_row(rows):
+    low, high = chains_of(rows, 0)
+    if len(low) == len(high) == len(rows):
         return True
     met = {a: True for a, b in mesh}
-    sides = {side: True for side in sides_of(rows)}
-    outer = [side for side in mesh if (side[1], side[0]) not in mesh]
+    around = low + high[-2::-1]
+    sides = {side: True for side in zip(around, around[1:])}
+    outer = [(a, b) for a, b in mesh if (b, a) not in mesh]
     return len(met) == len(rows) and all([side in sides for side in outer])

@@ -33,11 +33,3 @@ def is_fraction(value):
     if not is_integer(value[0]) or not is_integer(value[1]):
         return False
     return value[1] >= 1 and gcd(value[0], value[1]) == 1
-
-
-def total(fractions):
-    """The sum of fractions."""
-    top, bottom = 0, 1
-    for one in fractions:
-        top, bottom = fraction(top * one[1] + one[0] * bottom, bottom * one[1])
-    return (top, bottom)
