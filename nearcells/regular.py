@@ -31,8 +31,23 @@ def regular(sites, triangles):
     if word == "amounts":
         amounts = lowest(numbers)
         return ("paper", [(edge, many) for edge, many in zip(edges, amounts) if many > 0])
-    heights = {site: number for site, number in zip(free, lowest(numbers))}
+    heights = rounded(folds, free, numbers)
     return ("weights", [x * x + y * y - heights.get((x, y), 0) for x, y in rows])
+
+
+def rounded(folds, free, numbers):
+    """Heights of the free sites that are little, in about the same proportion as some numbers.
+
+    With the numbers all folds are above 0, and so they are with what is told.
+    """
+    most = max([abs(number) for number in numbers])
+    scale = 1
+    while scale < most:
+        heights = {site: (2 * number * scale + most) // (2 * most) for site, number in zip(free, numbers)}
+        if all([fold_for(one, heights) > 0 for one in folds]):
+            return heights
+        scale = 2 * scale
+    return {site: number for site, number in zip(free, numbers)}
 
 
 def lowest(numbers):
@@ -49,9 +64,9 @@ def fold(mesh, a, b):
     return {d: turn(a, b, c), c: turn(b, a, d), a: -turn(b, c, d), b: -turn(c, a, d)}
 
 
-def fold_at(mesh, a, b, heights):
-    """The fold of an edge between two triangles, for heights of the sites."""
-    return sum([many * heights[site] for site, many in fold(mesh, a, b).items()])
+def fold_for(one, heights):
+    """What a fold is for heights of the sites, 0 where none is told."""
+    return sum([many * heights.get(site, 0) for site, many in one.items()])
 
 
 def is_weights(sites, triangles, weights):
@@ -65,7 +80,7 @@ def is_weights(sites, triangles, weights):
     heights = {(x, y): x * x + y * y - weight for (x, y), weight in zip(rows, weights)}
     if len(mesh) == 0:
         return all([is_below(a, b, c, heights) for a, b, c in zip(rows, rows[1:], rows[2:])])
-    return all([fold_at(mesh, a, b, heights) > 0 for a, b in inner_edges(mesh)])
+    return all([fold_for(fold(mesh, a, b), heights) > 0 for a, b in inner_edges(mesh)])
 
 
 def looked_at(rows, triangles):

@@ -112,6 +112,27 @@ class Order(unittest.TestCase):
         self.assertEqual(sorted_by_place([]), [])
 
 
+class Others(unittest.TestCase):
+    def test_are_the_neighbours(self):
+        for sites in samples.small(60) + samples.middling() + samples.large():
+            sub = Subdivision(sites)
+            for site in sites[:12]:
+                told = [other for other, _, _ in cell(sites, site)]
+                right = sub.neighbours(site)
+                self.assertEqual(sorted(told), sorted(right))
+                if told:
+                    at = right.index(told[0])
+                    self.assertEqual(told, right[at:] + right[:at])
+
+    def test_ends_are_centres_of_faces(self):
+        for sites in samples.middling() + samples.large()[:5]:
+            places = {place: near for place, _, near in vertices(sites)}
+            for site in sites[:12]:
+                for other, begin, end in cell(sites, site):
+                    for place in (begin, end):
+                        self.assertTrue(place is None or {site, other} <= set(places[place]))
+
+
 class Meeting(unittest.TestCase):
     def test_against_a_plain_way(self):
         for number, sites in enumerate(samples.small()):

@@ -119,6 +119,36 @@ class Going(unittest.TestCase):
                 self.assertEqual((lost, won, come), (back[3], back[2], sorted(back[0] + back[1])))
 
 
+class ManySites(unittest.TestCase):
+    """Against the subdivisions of more sites, before and behind."""
+
+    def differences(self, before, behind):
+        return ([item for item in before if item not in behind], [item for item in behind if item not in before])
+
+    def test_coming_and_going(self):
+        chance = random.Random(21)
+        for number, sites in enumerate(samples.middling() + [s[:199] for s in samples.large()]):
+            for site in more_sites(sites, 3, number):
+                before, behind = Subdivision(sites), Subdivision(sites + [site])
+                edges = self.differences(before.edges(), behind.edges())
+                faces = self.differences(before.faces(), behind.faces())
+                gone, grown, lost, won = coming(sites, site)
+                self.assertEqual((lost, won), edges, (number, site))
+                self.assertEqual(sorted(gone + grown), faces[0], (number, site))
+                around = [face for face in behind.faces() if site in face]
+                self.assertEqual(going(sites + [site], site), (around, faces[0], edges[1], edges[0]))
+                other = chance.choice(sites)
+                rest = [s for s in sites if s != other]
+                if rest:
+                    self.check_move(before, rest, other, site)
+
+    def check_move(self, before, rest, other, site):
+        behind = Subdivision(rest + [site]).edges()
+        lost, won = moved(rest + [other], other, site)
+        self.assertEqual(lost, [e for e in before.edges() if put(e, other, site) not in behind])
+        self.assertEqual(won, [e for e in behind if put(e, site, other) not in before.edges()])
+
+
 class Covering(unittest.TestCase):
     def test_square(self):
         told = [covering(SQUARE, p) for p in ((1, 1, 1), (2, 2, 1), (3, 1, 1), (LONGEST, LONGEST, LONGEST - 1))]

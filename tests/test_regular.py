@@ -53,12 +53,19 @@ class Examples(unittest.TestCase):
 
 
 class Regular(unittest.TestCase):
+    within = 0
+
     def check(self, sites, way):
         word, told = regular(sites, way)
         if word == "weights":
             self.assertEqual([type(w) for w in told], [int] * len(sites))
             self.assertTrue(folds_are_above(sites, way, told), (sites, way))
             self.assertIs(is_weights(sites, way, told), True)
+            heavy = [(x, y, w) for (x, y), w in zip(sorted(sites), told)]
+            if max(abs(w) for w in told) <= 10 ** 13:
+                self.within += 1
+                faces = [list(three) for three in way]
+                self.assertEqual((power_faces(heavy), {kind(heavy, site) for site in heavy}), (sorted(faces), {"seen"}))
         else:
             self.assertEqual(word, "paper")
             edges = [edge for edge, _ in told]
@@ -86,6 +93,7 @@ class Regular(unittest.TestCase):
                 found[word] = found.get(word, 0) + 1
         self.assertGreater(found["paper"], 5)
         self.assertGreater(found["weights"], 99)
+        self.assertEqual(self.within, found["weights"])
 
     def test_those_of_the_subdivision(self):
         for sites in FEW + [samples.RING[:8], samples.grid(4, 2), samples.grid(3, 2)]:
