@@ -6,7 +6,7 @@ from nearcells.around import area_of, centre_behind, points_about, ring_of
 from nearcells.checks import ascending, check_box, check_member, check_place, check_sites
 from nearcells.errors import InvalidBound
 from nearcells.links import edges_of, faces_of, linked
-from nearcells.nearby import lowest_lines, nearest_rows
+from nearcells.nearby import lowest_lines, nearest_rows, with_twin
 from nearcells.plane import circle_through
 from nearcells.polygons import cut, double_area_of_places, least_place, sorted_by_place
 from nearcells.wholes import fraction
@@ -96,4 +96,7 @@ def along(sites, a, b):
     check_place(b, "b")
     if a == b:
         raise InvalidBound("b")
-    return [site for _, _, near in lowest_lines(sites, a, b) for site in near]
+    chain, twins = lowest_lines(sites, a, b)
+    if not twins:
+        return [site for _, _, site in chain]
+    return [one for _, _, site in chain for one in with_twin(site, twins)]

@@ -57,9 +57,10 @@ def settle(rows, links, flat, at, ahead):
     gone = []
     while ahead:
         a, b = ahead.pop()
-        if a not in links[b]:
+        of_b = links[b]
+        if a not in of_b:
             continue
-        c = links[b][a]
+        c = of_b[a]
         ax, ay = rows[a]
         bx, by = rows[b]
         cx, cy = rows[c]
@@ -76,7 +77,7 @@ def settle(rows, links, flat, at, ahead):
                 turn_over(links, a, b, c, at)
                 ahead.append((a, c))
                 ahead.append((c, b))
-                if not take_out(flat, a, b):
+                if not flat or not take_out(flat, a, b):
                     gone.append((a, b))
     return gone
 
@@ -91,8 +92,6 @@ def turn_over(links, a, b, c, at):
 
 def take_out(flat, a, b):
     """Take an edge out of those that are flat; returns whether it was one."""
-    if not flat:
-        return False
     return flat.pop((a, b), False) or flat.pop((b, a), False)
 
 

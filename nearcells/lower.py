@@ -56,15 +56,17 @@ def outer_ways(points):
 
 def points_ahead(points, a, b):
     """The points on the plane through the way from a to b below which none is on its left."""
-    least = None
-    for point in points:
-        area = turn(a, b, point)
-        if area > 0:
-            rise = rise_over(a, b, point)
-            if least is None or rise * least[1] < least[0] * area:
-                least = (rise, area)
-    rise, area = least
-    return [point for point in points if rise_over(a, b, point) * area == rise * turn(a, b, point)]
+    ax, ay, ah = a
+    ux, uy, uh = b[0] - ax, b[1] - ay, b[2] - ah
+    # The plane is told by what is at right angles to it; there is none yet while r is 0.
+    p, q, r = 0, 0, 0
+    for px, py, ph in points:
+        x, y, h = px - ax, py - ay, ph - ah
+        area = ux * y - uy * x
+        if area > 0 and (r == 0 or p * x + q * y + r * h < 0):
+            p, q, r = uy * h - uh * y, uh * x - ux * h, area
+    level = p * ax + q * ay + r * ah
+    return [(x, y, h) for x, y, h in points if p * x + q * y + r * h == level]
 
 
 def lower_faces(points):

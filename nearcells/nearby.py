@@ -22,19 +22,23 @@ def spans_along(rows, a, b):
     Returns a list of tuples (top, bottom, sites), sites ascending: the part begins behind the
     share top / bottom of the way. Parts without a length are left out.
     """
-    top, bottom, spans = 0, 1, []
-    before = None
-    for begin, end, near in lowest_lines(rows, a, b):
-        if before is not None:
-            top = begin - before[0]
-            bottom = top + before[1] - end
-        spans.append((top, bottom, near))
-        before = (begin, end)
+    chain, twins = lowest_lines(rows, a, b)
+    spans = [(0, 1, with_twin(chain[0][2], twins))]
+    for (first, first_end, _), (begin, end, site) in zip(chain, chain[1:]):
+        top = begin - first
+        spans.append((top, top + first_end - end, with_twin(site, twins)))
     return spans
 
 
+def with_twin(site, twins):
+    """A site, and the one that is as far from the whole way, if there is one."""
+    return [site, twins[site]] if site in twins else [site]
+
+
 def lowest_lines(rows, a, b):
-    """The distances at both ends of the way, and the sites, for each part of it, in their order.
+    """Tuples of the distances at both ends of a way, and the nearest site, for each part of it.
+
+    Behind them a dict: for a site of these the greater one that is as far from the whole way.
 
     The distances are told as the squared ones, less what these have in common for all sites,
     times a number. So they change evenly along the way: those that come below others later are
@@ -46,7 +50,7 @@ def lowest_lines(rows, a, b):
     u, v = -2 * ad * bx - p, -2 * ad * by - q
     lines = sorted([(begin, begin + u * x + v * y, site) for site in rows for x, y in [site]
                     for begin in [x * (k * x + p) + y * (k * y + q)]])
-    chain, least = [], lines[0][1] + 1
+    chain, twins, least = [], {}, lines[0][1] + 1
     for begin, end, site in lines:
         if end < least:
             while len(chain) > 1:
@@ -56,8 +60,8 @@ def lowest_lines(rows, a, b):
                 if (last - first) * (last_end - end) < (begin - last) * (first_end - last_end):
                     break
                 chain.pop()
-            chain.append((begin, end, [site]))
+            chain.append((begin, end, site))
             least = end
         elif end == least and begin == chain[-1][0]:
-            chain[-1][2].append(site)
-    return chain
+            twins[chain[-1][2]] = site
+    return (chain, twins)

@@ -4,30 +4,21 @@ from nearcells.plane import place_of
 from nearcells.wholes import fraction
 
 
-def order_scale(places):
-    """A number for place_key that puts these places in order."""
+def place_keys(places):
+    """For each place two integers, and its number, that are ordered as these places are."""
     # Unlike fractions with denominators up to d differ by at least 1 / (d * d).
-    return max([d for _, _, d in places], default=1) ** 2
-
-
-def place_key(place, scale):
-    """Two integers that are ordered as places are, for places of one order_scale."""
-    x, y, d = place
-    return (x * scale // d, y * scale // d)
+    scale = max([d for _, _, d in places], default=1) ** 2
+    return [(x * scale // d, y * scale // d, at) for at, (x, y, d) in enumerate(places)]
 
 
 def sorted_by_place(rows):
     """Tuples that begin with a place, unlike ones, in the order of these."""
-    scale = order_scale([row[0] for row in rows])
-    ranked = sorted([(place_key(row[0], scale), at) for at, row in enumerate(rows)])
-    return [rows[at] for _, at in ranked]
+    return [rows[at] for _, _, at in sorted(place_keys([row[0] for row in rows]))]
 
 
 def least_place(places):
     """The number of the least one of some places."""
-    scale = order_scale(places)
-    keys = [place_key(place, scale) for place in places]
-    return keys.index(min(keys))
+    return min(place_keys(places))[2]
 
 
 def cut(places, u, v, w):
