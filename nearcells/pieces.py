@@ -20,7 +20,7 @@ class Pieces:
     """
 
     def __init__(self, rows):
-        self.bits = {pair: 1 << at for at, pair in enumerate(combinations(rows, 2))}
+        self.bits = {pair: 1 << at for at, pair in enumerate(list(combinations(rows, 2)))}
         self.threes = []
         thirds = {}
         for a, b, c in open_triangles(rows):

@@ -21,6 +21,7 @@ MANY = {"len": (1, 1), "range": (1, 3), "enumerate": (1, 2), "sum": (1, 2), "abs
         "list": (0, 1), "tuple": (0, 1), "dict": (0, 1), "set": (0, 1), "isinstance": (2, 2),
         "ord": (1, 1), "repr": (1, 1), "any": (1, 1), "all": (1, 1), "divmod": (2, 2)}
 ITERATORS = {"range", "enumerate", "zip", "reversed", "product", "combinations", "permutations"}
+PRODUCTS = {"product", "combinations", "permutations"}
 VIEWS = {"items", "keys", "values"}
 ITERATED_BY = {"list", "tuple", "dict", "sorted", "sum", "any", "all", "enumerate", "zip", "min",
                "max"}
@@ -149,6 +150,8 @@ def is_iterated(source, node):
         by = called_name(parent)
         if called_name(node) == "range" and by in ("len", "reversed"):
             return True
+        if called_name(node) in PRODUCTS:
+            return by in ITERATED_BY - {"enumerate", "zip", "dict"}
         joins = isinstance(parent.func, ast.Attribute) and parent.func.attr == "join"
         return joins or by in ITERATED_BY or called_name(node) is None and by in ITERATORS
     ranged = called_name(node) in ("range", None)
