@@ -48,10 +48,15 @@ def lowest_lines(rows, a, b):
     bx, by, bd = b
     k, p, q = ad * bd, -2 * bd * ax, -2 * bd * ay
     u, v = -2 * ad * bx - p, -2 * ad * by - q
-    lines = sorted([(begin, begin + u * x + v * y, site) for site in rows for x, y in [site]
-                    for begin in [x * (k * x + p) + y * (k * y + q)]])
+    lines = []
+    for site in rows:
+        x, y = site
+        begin = x * (k * x + p) + y * (k * y + q)
+        lines.append((begin, begin + u * x + v * y, site))
+    lines = sorted(lines)
     chain, twins, least = [], {}, lines[0][1] + 1
-    for begin, end, site in lines:
+    for line in lines:
+        begin, end, site = line
         if end < least:
             while len(chain) > 1:
                 first, first_end, _ = chain[-2]
@@ -60,7 +65,7 @@ def lowest_lines(rows, a, b):
                 if (last - first) * (last_end - end) < (begin - last) * (first_end - last_end):
                     break
                 chain.pop()
-            chain.append((begin, end, site))
+            chain.append(line)
             least = end
         elif end == least and begin == chain[-1][0]:
             twins[chain[-1][2]] = site
