@@ -1,21 +1,16 @@
 """The subdivision with edges that are told ahead."""
 
-from nearcells.checks import ascending, check_member, check_two
-from nearcells.errors import InvalidTriangles, LimitExceeded
+from nearcells.checks import ascending, check_limit, check_member, check_two
+from nearcells.errors import InvalidTriangles
 from nearcells.links import edges_of, faces_of, fans_of, linked, links_of
 from nearcells.mesh import inner_edges, wrong_in
 from nearcells.outline import is_row
 from nearcells.plane import height_over, turn
 from nearcells.told import bound_mesh, crossing_edges, is_crossed, is_split, told_edges
 from nearcells.triangles import triangulation
+from nearcells.wholes import order_keys
 
 MOST_BOUND = 40
-
-
-def at_most_bound(rows):
-    """Raise LimitExceeded for more sites than the functions here take."""
-    if len(rows) > MOST_BOUND:
-        raise LimitExceeded(MOST_BOUND)
 
 
 def sees(sites, told, a, b):
@@ -23,7 +18,7 @@ def sees(sites, told, a, b):
     rows = ascending(sites)
     edges = told_edges(told, rows)
     check_two(a, b, rows)
-    at_most_bound(rows)
+    check_limit(rows, MOST_BOUND)
     return is_open(rows, edges, a, b)
 
 
@@ -37,7 +32,7 @@ def seen_from(sites, told, site):
     rows = ascending(sites)
     edges = told_edges(told, rows)
     check_member(site, rows, "site")
-    at_most_bound(rows)
+    check_limit(rows, MOST_BOUND)
     return [other for other in rows if other != site and is_open(rows, edges, site, other)]
 
 
@@ -62,7 +57,7 @@ def bound_links(sites, told):
     """The ascending sites, and their links with told edges."""
     rows = ascending(sites)
     edges = told_edges(told, rows)
-    at_most_bound(rows)
+    check_limit(rows, MOST_BOUND)
     if is_row(rows):
         return (rows, linked(rows))
     mesh = bound_mesh(rows, edges)
@@ -78,7 +73,7 @@ def bound_wrong(sites, told, triangles):
     mesh = triangulation(rows, triangles)
     if len(mesh) > 0 and not all([(a, b) in mesh or (b, a) in mesh for a, b in edges]):
         raise InvalidTriangles(len(triangles))
-    at_most_bound(rows)
+    check_limit(rows, MOST_BOUND)
     return min([edge for edge in wrong_in(mesh) if edge not in edges], default=None)
 
 
@@ -87,11 +82,8 @@ def crossed(sites, triangles, a, b):
     rows = ascending(sites)
     mesh = triangulation(rows, triangles)
     check_two(a, b, rows)
-    at_most_bound(rows)
+    check_limit(rows, MOST_BOUND)
     found = crossing_edges(mesh, a, b)
     # How far from a they are crossed: a share of the way, by the areas at both ends.
     shares = [(abs(turn(c, d, a)), abs(turn(c, d, a)) + abs(turn(c, d, b))) for c, d in found]
-    # Unlike shares with denominators up to that differ by at least 1 over its square.
-    scale = max([bottom for _, bottom in shares], default=1) ** 2
-    ranked = sorted([(top * scale // bottom, edge) for (top, bottom), edge in zip(shares, found)])
-    return [edge for _, edge in ranked]
+    return [edge for _, edge in sorted(list(zip(order_keys(shares), found)))]

@@ -7,8 +7,7 @@ from nearcells.checks import ascending, check_box, check_member, check_place, ch
 from nearcells.errors import InvalidBound
 from nearcells.links import edges_of, faces_of, linked
 from nearcells.nearby import lowest_lines, nearest_rows, with_twin
-from nearcells.plane import circle_through
-from nearcells.polygons import cut, double_area_of_places, least_place, sorted_by_place
+from nearcells.polygons import circles_of, cut, double_area_of_places, least_place
 from nearcells.wholes import fraction
 
 
@@ -32,11 +31,7 @@ def cell(sites, site):
 def vertices(sites):
     """The tuples (place, square, near) of the places at which cells meet, ascending."""
     rows = ascending(sites)
-    found = []
-    for face in faces_of(rows, linked(rows)):
-        place, square = circle_through(face[0], face[1], face[2])
-        found.append((place, square, sorted(face)))
-    return sorted_by_place(found)
+    return circles_of(faces_of(rows, linked(rows)))
 
 
 def meeting(sites, place):

@@ -6,7 +6,7 @@ before it is known to be a site: so arguments may be nested deep.
 
 from math import gcd
 
-from nearcells.errors import InvalidBound, InvalidSites
+from nearcells.errors import InvalidBound, InvalidSites, LimitExceeded
 from nearcells.wholes import is_fraction, is_integer
 
 MOST_SITES = 200
@@ -161,6 +161,12 @@ def ascending(sites):
     if not are_sites(sites):
         tell_wrong_site(sites)
     return sorted(sites)
+
+
+def check_limit(rows, most):
+    """Raise LimitExceeded for more sites than a function takes."""
+    if len(rows) > most:
+        raise LimitExceeded(most)
 
 
 def check_member(value, sites, name):

@@ -5,7 +5,7 @@ from nearcells.links import edges_of, faces_of, linked, links_of, neighbours_of
 from nearcells.mesh import inner_edges, mesh_of, told_edge
 from nearcells.outline import corners_of
 from nearcells.plane import circle_through, height_over, spread_square
-from nearcells.polygons import sorted_by_place
+from nearcells.polygons import circles_of
 from nearcells.wholes import fraction
 
 
@@ -72,11 +72,7 @@ def far_cell(sites, site):
 
 def far_vertices(sites):
     """The tuples (place, square, far) of the places at which far cells meet, ascending."""
-    found = []
-    for face in far_faces(sites):
-        place, square = circle_through(face[0], face[1], face[2])
-        found.append((place, square, sorted(face)))
-    return sorted_by_place(found)
+    return circles_of(far_faces(sites))
 
 
 def far_edges(sites):

@@ -1,6 +1,6 @@
 """Places in order, and convex polygons whose corners are places."""
 
-from nearcells.plane import place_of
+from nearcells.plane import circle_through, place_of
 from nearcells.wholes import fraction
 
 
@@ -14,6 +14,15 @@ def place_keys(places):
 def sorted_by_place(rows):
     """Tuples that begin with a place, unlike ones, in the order of these."""
     return [rows[at] for _, _, at in sorted(place_keys([row[0] for row in rows]))]
+
+
+def circles_of(faces):
+    """The tuples (place, square, corners) of the circles of faces, in the order of their centres."""
+    found = []
+    for face in faces:
+        place, square = circle_through(face[0], face[1], face[2])
+        found.append((place, square, sorted(face)))
+    return sorted_by_place(found)
 
 
 def least_place(places):

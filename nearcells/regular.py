@@ -2,8 +2,7 @@
 
 from math import gcd
 
-from nearcells.checks import ascending, is_pair
-from nearcells.errors import LimitExceeded
+from nearcells.checks import ascending, check_limit, is_pair
 from nearcells.mesh import inner_edges
 from nearcells.plane import turn
 from nearcells.simplex import balance
@@ -18,8 +17,7 @@ def regular(sites, triangles):
     """Weights for which a triangulation is what the cells make, or a paper that there are none."""
     rows = ascending(sites)
     mesh = triangulation(rows, triangles)
-    if len(rows) > MOST_TOLD:
-        raise LimitExceeded(MOST_TOLD)
+    check_limit(rows, MOST_TOLD)
     edges = sorted(inner_edges(mesh))
     if len(edges) == 0:
         return ("weights", [0 for _ in rows])
@@ -72,7 +70,8 @@ def fold_for(one, heights):
 def is_weights(sites, triangles, weights):
     """Whether a value is a list of weights for which a triangulation is what the cells make."""
     rows = ascending(sites)
-    mesh = looked_at(rows, triangles)
+    mesh = triangulation(rows, triangles)
+    check_limit(rows, MOST_LOOKED_AT)
     if not isinstance(weights, list) or len(weights) != len(rows):
         return False
     if not all([is_integer(weight) for weight in weights]):
@@ -81,14 +80,6 @@ def is_weights(sites, triangles, weights):
     if len(mesh) == 0:
         return all([is_below(a, b, c, heights) for a, b, c in zip(rows, rows[1:], rows[2:])])
     return all([fold_for(fold(mesh, a, b), heights) > 0 for a, b in inner_edges(mesh)])
-
-
-def looked_at(rows, triangles):
-    """The mesh of a triangulation of at most thirty sites."""
-    mesh = triangulation(rows, triangles)
-    if len(rows) > MOST_LOOKED_AT:
-        raise LimitExceeded(MOST_LOOKED_AT)
-    return mesh
 
 
 def is_below(a, b, c, heights):
@@ -101,7 +92,8 @@ def is_below(a, b, c, heights):
 def is_paper(sites, triangles, paper):
     """Whether a value is a paper that no weights make a triangulation what the cells make."""
     rows = ascending(sites)
-    mesh = looked_at(rows, triangles)
+    mesh = triangulation(rows, triangles)
+    check_limit(rows, MOST_LOOKED_AT)
     if not isinstance(paper, list) or len(paper) == 0:
         return False
     if not all([is_amount(item, rows, mesh) for item in paper]):

@@ -1,14 +1,13 @@
 """All triangulations of few sites, the flips between them, and their angles."""
 
-from nearcells.checks import ascending
-from nearcells.errors import LimitExceeded
+from nearcells.checks import ascending, check_limit
 from nearcells.links import empty_mesh
 from nearcells.mesh import can_flip, inner_edges, told_triangles
 from nearcells.outline import is_row
 from nearcells.pieces import Pieces, reached_ways
 from nearcells.plane import height_over, on_stretch, turn
 from nearcells.triangles import triangulation
-from nearcells.wholes import fraction
+from nearcells.wholes import fraction, order_keys
 
 MOST_CUT = 9
 MOST_SURE = 40
@@ -16,22 +15,17 @@ MOST_SURE = 40
 
 def all_ways(sites):
     """All triangulations of at most nine sites, ascending."""
-    rows = at_most(ascending(sites), MOST_CUT)
+    rows = ascending(sites)
+    check_limit(rows, MOST_CUT)
     pieces = Pieces(rows)
     ways = reached_ways(pieces.fours, pieces.way_of(empty_mesh(rows)), None)
     return sorted([pieces.told(way) for way in ways])
 
 
-def at_most(rows, many):
-    """Sites as they are; raises LimitExceeded for more than so many."""
-    if len(rows) > many:
-        raise LimitExceeded(many)
-    return rows
-
-
 def sure_edges(sites):
     """The edges that all triangulations of at most forty sites have, ascending."""
-    rows = at_most(ascending(sites), MOST_SURE)
+    rows = ascending(sites)
+    check_limit(rows, MOST_SURE)
     if is_row(rows):
         return list(zip(rows, rows[1:]))
     pairs = [(a, b) for at, a in enumerate(rows) for b in rows[at + 1:]]
@@ -66,7 +60,8 @@ def fewest_flips(sites, one, other):
     """The least one of the shortest lists of edges whose flips lead from one to other."""
     rows = ascending(sites)
     start, goal = triangulation(rows, one), triangulation(rows, other)
-    pieces = Pieces(at_most(rows, MOST_CUT))
+    check_limit(rows, MOST_CUT)
+    pieces = Pieces(rows)
     way, end = pieces.way_of(start), pieces.way_of(goal)
     steps = reached_ways(pieces.fours, end, way)
     told = []
@@ -106,21 +101,20 @@ def cotangent(a, b, c):
 
 def sorted_down(fractions):
     """Fractions from the greatest one on."""
-    # Unlike fractions with denominators up to d differ by at least 1 / (d * d).
-    scale = max([bottom for _, bottom in fractions], default=1) ** 2
-    ranked = sorted([(top * scale // bottom, top, bottom) for top, bottom in fractions], reverse=True)
-    return [(top, bottom) for _, top, bottom in ranked]
+    return [one for _, one in sorted(list(zip(order_keys(fractions), fractions)), reverse=True)]
 
 
 def best_way(sites):
     """The triangulation of at most nine sites whose list of cotangents is the least one."""
-    rows = at_most(ascending(sites), MOST_CUT)
+    rows = ascending(sites)
+    check_limit(rows, MOST_CUT)
     pieces = Pieces(rows)
     # None but those that cut the faces are in question: flips of edges within a face lead to all.
     level = [quad for quad in pieces.fours if is_level(quad)]
     ways = reached_ways(level, pieces.way_of(empty_mesh(rows)), None)
     told = sorted([pieces.told(way) for way in ways])
-    ranks = rank_of([one for triangle, _ in pieces.threes for one in cotangents(triangle)])
+    known = [one for triangle, _ in pieces.threes for one in cotangents(triangle)]
+    ranks = {one: key for one, key in zip(known, order_keys(known))}
     lists = [sorted([ranks[one] for triangle in way for one in cotangents(triangle)], reverse=True)
              for way in told]
     return told[lists.index(min(lists))]
@@ -130,8 +124,3 @@ def is_level(quad):
     """Whether the four corners of a quad are on one circle."""
     _, _, _, (a, b), (c, d) = quad
     return height_over(a, b, c, d) == 0
-
-
-def rank_of(fractions):
-    """For each one of some fractions a number, the greater the greater it is."""
-    return {one: -at for at, one in enumerate(sorted_down(fractions))}

@@ -26,6 +26,13 @@ def is_less(one, other):
     return one[0] * other[1] < other[0] * one[1]
 
 
+def order_keys(fractions):
+    """For each fraction an integer: they are ordered as the fractions are, and alike if these are."""
+    # Unlike fractions with denominators up to d differ by at least 1 / (d * d).
+    scale = max([bottom for _, bottom in fractions], default=1) ** 2
+    return [top * scale // bottom for top, bottom in fractions]
+
+
 def is_fraction(value):
     """Whether a value is a tuple (numerator, denominator) in lowest terms."""
     if not isinstance(value, tuple) or len(value) != 2:
